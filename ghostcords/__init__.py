@@ -1,0 +1,1 @@
+"""Ghostcords: cords that may pass through themselves, never through one another."""

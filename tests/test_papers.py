@@ -1,0 +1,65 @@
+import unittest
+
+from ghostcords.papers import Denial, Paper, fixed
+from ghostcords.real import Alike, Parted, Real, Unreal
+from ghostcords.tables import Breaks, Fits
+from helpers import GREAT, ODD, nested
+
+CLASSES = {Fits: ("leads",), Alike: ("form",), Real: ("form",), Breaks: ("one", "other", "product", "total"),
+           Parted: ("cord", "row", "one", "other"), Unreal: ("row", "one", "other")}
+DENIALS = (Breaks, Parted, Unreal)
+
+
+class Papers(unittest.TestCase):
+    def test_fixed(self):
+        for value in ODD[:13] + GREAT:
+            self.assertIs(fixed(value), value)
+        value = [[1, [2]], (3, [4]), {5: [6]}]
+        self.assertEqual(fixed(value), ((1, (2,)), (3, (4,)), {5: [6]}))
+        self.assertEqual(value, [[1, [2]], (3, [4]), {5: [6]}])
+        inner = fixed(value=nested(59))
+        depth = 0
+        while inner:
+            self.assertIsInstance(inner, tuple)
+            inner, depth = inner[0], depth + 1
+        self.assertEqual((inner, depth), ((), 59))
+
+    def test_paper_and_denial(self):
+        parts = [1, [2]]
+        paper, denial = Paper("note", parts, None), Denial("note", parts, None)
+        parts[1].append(3)
+        for made in (paper, denial):
+            self.assertEqual((made.word, made.parts), ("note", ((1, (2,)), None)))
+        self.assertEqual([bool(paper), bool(denial)], [True, False])
+        self.assertEqual([Paper(word="a").parts, Denial(word="a").parts], [(), ()])
+        self.assertIsInstance(denial, Paper)
+
+    def test_equal(self):
+        self.assertEqual(Paper("a", [1]), Paper("a", (1,)))
+        self.assertEqual(Paper("a", 1), Paper("a", True))
+        self.assertEqual(Fits([]), Fits(()))
+        for other in (Paper("b", 1), Paper("a", 2), Paper("a"), Denial("a", 1), ("a", 1), "a", None, 1):
+            self.assertIs(Paper("a", 1) == other, False)
+            self.assertIs(Paper("a", 1) != other, True)
+            self.assertIs(other == Paper("a", 1), False)
+        self.assertIs(Paper("a") != Paper("a"), False)
+        self.assertIs(Fits([]) == Paper("fits", []), False)
+        self.assertIs(Paper("fits", []) == Fits([]), False)
+        self.assertIs(Denial("a") == Denial("a"), True)
+        self.assertIs(Denial("a") == Denial("b"), False)
+
+    def test_classes(self):
+        for kind, names in CLASSES.items():
+            for value in ODD + GREAT + ([0, [1, (2, [3])]],):
+                values = [value, [value], 0, None][:len(names)]
+                for paper in (kind(*values), kind(**dict(zip(names, values)))):
+                    self.assertEqual(paper.word, kind.__name__.lower())
+                    self.assertEqual(paper.parts, fixed(values))
+                    self.assertEqual(tuple(getattr(paper, name) for name in names), fixed(values))
+            self.assertIs(bool(paper), kind not in DENIALS)
+            self.assertIs(issubclass(kind, Denial), kind in DENIALS)
+            self.assertTrue(issubclass(kind, Paper))
+
+
+if __name__ == "__main__":
+    unittest.main()
