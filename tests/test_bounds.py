@@ -1,0 +1,64 @@
+"""Answers come in a short time within the bounds that the document names, whatever the numbers."""
+
+import time
+import unittest
+
+from ghostcords.forms import Form, form_of, places_of
+from ghostcords.ghosts import put_in, swaps
+from ghostcords.knit import crossings_of
+from ghostcords.names import names_behind, readings
+from ghostcords.readings import Reading
+from ghostcords.real import alike, all_readings, real
+from ghostcords.slides import slides
+from ghostcords.tables import fits
+from ghostcords.windings import exponents, from_exponents, leading_rows, letters_of
+from helpers import all_rows, random_tangle, random_word, seeded
+
+LOT = (0, 1, 2, 3, 4)
+MOST_SECONDS = 10
+
+
+class Bounds(unittest.TestCase):
+    def setUp(self):
+        self.start = time.process_time()
+
+    def tearDown(self):
+        self.assertLess(time.process_time() - self.start, MOST_SECONDS)
+
+    def test_words_of_sixty_letters(self):
+        word = random_word(seeded(1), 60)
+        self.assertEqual([word.count(row) for row in all_rows(LOT)][1:], [count for _, count in Reading.of(word, LOT).counts()])
+        for at in range(61):
+            self.assertTrue(swaps(put_in(word, at, 0, 1)))
+        reading = Reading.of(word, LOT)
+        self.assertEqual(from_exponents(LOT, exponents(reading)), reading)
+        self.assertTrue(fits(LOT, reading.counts()))
+
+    def test_tangles_of_sixty_crossings(self):
+        tangle = random_tangle(seeded(2), LOT, 54)
+        self.assertLessEqual(len(tangle), 66)
+        for many in range(0, len(tangle) + 1, 6):
+            self.assertEqual(len(names_behind(tangle, many)), 5)
+        self.assertTrue(alike(tangle, tangle))
+        self.assertTrue(real(LOT, readings(tangle)))
+        self.assertEqual(all_readings(form_of(tangle)), readings(tangle))
+        self.assertLess(len(slides(tangle)), len(tangle))
+
+    def test_forms_of_long_tangles(self):
+        half = random_tangle(seeded(3), LOT, 60)
+        self.assertEqual(form_of(half * ~half), Form(LOT))
+
+    def test_great_numbers(self):
+        for great in (10 ** 25, 10 ** 60 + 1, -10 ** 500):
+            form = Form(LOT, [(place, great + at) for at, place in enumerate(places_of(LOT))])
+            self.assertEqual(real(LOT, all_readings(form)).form, form)
+            self.assertGreater(crossings_of(form), abs(great))
+            reading = Reading(LOT, [(row, great + at) for at, row in enumerate(leading_rows(LOT))])
+            self.assertGreater(letters_of(reading), abs(great))
+            self.assertEqual(reading.repeated(great).root(great), reading)
+            self.assertEqual(~~(reading * reading), reading.repeated(2))
+            self.assertEqual(fits(LOT, reading.counts()).leads, reading.leads)
+
+
+if __name__ == "__main__":
+    unittest.main()
