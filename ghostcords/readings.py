@@ -1,22 +1,35 @@
 """Readings: what words count at the rows of a lot."""
 
-from ghostcords.checks import first_twice, is_integer, is_leading, is_list, is_lot, is_pair, is_row_of
+from ghostcords.checks import first_twice, is_integer, is_list, is_lot, is_pair
 from ghostcords.errors import BadNumber, BadReading, Twice
 from ghostcords.needs import need_cord, need_lot, need_number, need_one_lot, need_row
 from ghostcords.rows import leads_of
-from ghostcords.tallies import full_tally, letters_tally, opposite_tally, product_tally, repeated_tally, root_tally
+from ghostcords.tallies import full_tally, key_tally, lead_counts, opposite_tally, product_tally, repeated_tally
+from ghostcords.tallies import root_tally, told_count
 from ghostcords.texts import read_lot, read_numbers, told_words, words_of
 from ghostcords.words import need_word
 
 
-def are_leads(value, lot):
-    """Whether a value is a list of pairs of a row of the lot that leads and an integer."""
-    return is_list(value) and all([is_lead(pair, lot) for pair in value])
+def are_leads(value, rows):
+    """Whether a value is a list of pairs of one of these rows and an integer."""
+    known = {row: True for row in rows}
+    return is_list(value) and all([is_pair(pair) and is_lead(pair[0], pair[1], known) for pair in value])
 
 
-def is_lead(value, lot):
-    """Whether a value is a pair of a row of the lot that leads and an integer."""
-    return is_pair(value) and is_leading(value[0]) and is_row_of(value[0], lot) and is_integer(value[1])
+def is_lead(row, count, known):
+    """Whether any two values are a row that is known, and an integer."""
+    # What equals an integer need not be one, so the row is looked for only when it is made of them.
+    if not is_list(row) or not all([is_integer(cord) for cord in row]):
+        return False
+    return tuple(row) in known and is_integer(count)
+
+
+def counts_told(pairs):
+    """The dict of pairs of a row and an integer; raises Twice for the first row that stood ahead."""
+    counts = {tuple(row): count for row, count in pairs}
+    if len(counts) < len(pairs):
+        raise Twice(first_twice([pair[0] for pair in pairs]))
+    return counts
 
 
 class Reading:
@@ -25,23 +38,29 @@ class Reading:
     def __init__(self, lot, leads=()):
         if not is_lot(lot):
             raise BadReading("lot")
-        if not are_leads(leads, lot):
-            raise BadReading("leads")
-        row_twice = first_twice([pair[0] for pair in leads])
-        if row_twice is not None:
-            raise Twice(row_twice)
-        counts = {tuple(row): count for row, count in leads if count != 0}
         self.lot = tuple(lot)
-        self.leads = tuple([(row, counts[row]) for row in leads_of(lot) if row in counts])
-        self._tally = full_tally(lot, counts)
+        rows = leads_of(self.lot)
+        if not are_leads(leads, rows):
+            raise BadReading("leads")
+        counts = counts_told(leads)
+        self.leads = tuple([(row, counts[row]) for row in rows if counts.get(row, 0) != 0])
+        self._keys = key_tally(self.lot, counts)
+        self._tally = None
+
+    @property
+    def tally(self):
+        """The counts of all rows of the lot, the empty one too."""
+        if self._tally is None:
+            self._tally = full_tally(self.lot, self._keys)
+        return self._tally
 
     def __mul__(self, other):
         need_reading(other, "other")
         need_one_lot(self.lot, other.lot)
-        return reading_of(self.lot, product_tally(self._tally, other._tally))
+        return reading_with(self.lot, product_tally(self._keys, other._keys))
 
     def __invert__(self):
-        return reading_of(self.lot, opposite_tally(self._tally))
+        return reading_with(self.lot, opposite_tally(self._keys))
 
     def __eq__(self, other):
         return isinstance(other, Reading) and self.lot == other.lot and self.leads == other.leads
@@ -52,28 +71,31 @@ class Reading:
     def count(self, row):
         """The count of a row, 0 if it has a cord that is not in the lot."""
         need_row(row, "row")
-        return self._tally.get(tuple(row), 0)
+        if any([cord not in self.lot for cord in row]):
+            return 0
+        told = tuple(row)
+        return self._keys[told] if told in self._keys else told_count(self._keys, told)
 
     def counts(self):
         """The tuple of the pairs (row, count) of all rows of the lot but the empty one, in order."""
-        return tuple([(row, count) for row, count in self._tally.items() if row != ()])
+        return tuple([(row, count) for row, count in self.tally.items() if row != ()])
 
     def repeated(self, times):
         """The reading so many times, any integer."""
         need_number(times, "times")
-        return reading_of(self.lot, repeated_tally(self._tally, times))
+        return reading_with(self.lot, repeated_tally(self._keys, times))
 
     def root(self, times):
         """The reading that so many times is this one, None if there is none."""
         if not is_integer(times) or times == 0:
             raise BadNumber("times")
-        tally = root_tally(self._tally, times)
-        return None if tally is None else reading_of(self.lot, tally)
+        keys = root_tally(self._keys, times)
+        return None if keys is None else reading_with(self.lot, keys)
 
     def within(self, lot):
         """The reading over this lot."""
         need_lot(lot, "lot")
-        return Reading(lot, [(row, count) for row, count in self.leads if is_row_of(row, lot)])
+        return reading_of(tuple(lot), {row: count for row, count in self.leads if all([cord in lot for cord in row])})
 
     def as_one(self, one, other):
         """The reading with letters of the cord other as letters of one, over the lot without other."""
@@ -82,10 +104,10 @@ class Reading:
         if one == other:
             raise Twice(one)
         lot = tuple([cord for cord in self.lot if cord != other])
-        counts = {row: self._tally[row] for row in leads_of(lot)}
+        counts = {row: self.tally[row] for row in leads_of(lot)}
         for row in list(counts):
             if one in row:
-                counts[row] = counts[row] + self._tally[tuple([other if cord == one else cord for cord in row])]
+                counts[row] = counts[row] + self.tally[tuple([other if cord == one else cord for cord in row])]
         return reading_of(lot, counts)
 
     @staticmethod
@@ -93,7 +115,7 @@ class Reading:
         """The reading of a word over a lot."""
         need_word(word, "word")
         need_lot(lot, "lot")
-        return reading_of(lot, letters_tally(word.letters, lot))
+        return reading_of(tuple(lot), lead_counts(word.letters, lot))
 
     @staticmethod
     def read(text):
@@ -103,17 +125,18 @@ class Reading:
         return Reading(lot, read_numbers(words, start, leads_of(lot)))
 
 
-def reading_of(lot, tally):
-    """The reading over a lot with the counts of a tally, or of a dict of counts of the rows that lead."""
-    return Reading(lot, [(row, tally[row]) for row in leads_of(lot)])
+def reading_of(lot, counts):
+    """The reading over a lot, a tuple, with these counts, a dict, at the rows that lead; others have 0."""
+    return reading_with(lot, key_tally(lot, counts))
 
 
-def tally_of(reading):
-    """The tally of a reading."""
-    tally = {(): 1}
-    for row, count in reading.counts():
-        tally[row] = count
-    return tally
+def reading_with(lot, keys):
+    """The reading over a lot, a tuple, with a key tally, not asked whether it is one."""
+    reading = Reading(())
+    reading.lot = lot
+    reading.leads = tuple([(row, keys[row]) for row in leads_of(lot) if keys[row] != 0])
+    reading._keys = keys
+    return reading
 
 
 def need_reading(value, part):

@@ -5,10 +5,10 @@ from ghostcords.errors import BadLot, BadReading, Misfit
 from ghostcords.forms import Form, all_places, form_of, need_form
 from ghostcords.needs import need_lot, need_one_lot
 from ghostcords.papers import Denial, Paper, fixed
-from ghostcords.readings import Reading, reading_of, tally_of
+from ghostcords.readings import Reading, reading_of
 from ghostcords.rows import rows_of
 from ghostcords.seeing import name_count, others_of, seen_behind
-from ghostcords.stacks import straight_tallies, tallies_below, tallies_of_wound
+from ghostcords.stacks import tallies_of_form
 from ghostcords.tallies import blank_tally, product_tally
 from ghostcords.tangles import need_tangle
 
@@ -67,10 +67,7 @@ def alike(one, other):
 def all_readings(form):
     """The tuple of the readings of all cords, over the others, in each tangle with this Form."""
     need_form(form, "form")
-    tallies = straight_tallies(form.lot)
-    for cord in form.lot[::-1]:
-        counts = tally_of(form.reading(cord))
-        tallies = tallies_below(tallies, tallies_of_wound(form.lot, cord, counts))
+    tallies = tallies_of_form(form)
     return tuple([reading_of(others_of(form.lot, cord), tallies[cord]) for cord in form.lot])
 
 
@@ -91,7 +88,7 @@ def product_of_names(lot, readings):
     """The tally of the product of these readings, one of each cord of the lot."""
     product = blank_tally(lot)
     for at in range(len(lot) - 1, -1, -1):
-        product = product_tally(product, name_tally(lot, lot[at], tally_of(readings[at])))
+        product = product_tally(product, name_tally(lot, lot[at], readings[at].tally))
     return product
 
 
@@ -115,5 +112,5 @@ def real(lot, readings):
     for row in rows_of(lot):
         if product[row] != bare_count(row):
             return Unreal(row, product[row], bare_count(row))
-    seen = {cord: tally_of(readings[at]) for at, cord in enumerate(lot)}
+    seen = {cord: readings[at].tally for at, cord in enumerate(lot)}
     return Real(Form(lot, [((cord, row), seen[cord][row]) for cord, row in all_places(lot)]))

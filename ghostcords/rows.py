@@ -13,7 +13,22 @@ def rows_of(lot):
 
 def leads_of(lot):
     """The list of all rows that lead of cords of the lot, in order."""
-    return [row for row in rows_of(lot) if row[0] == min(row)]
+    rows = []
+    longest = [(cord,) for cord in lot]
+    for _ in lot:
+        rows.extend(longest)
+        longest = [row + (cord,) for row in longest for cord in lot if cord > row[0] and cord not in row]
+    return rows
+
+
+def key_rows(lot):
+    """The list of all rows without the least cord of the lot, and of those that begin with it.
+
+    Each part of such a row is one of them, so their counts alone tell those of words behind one another.
+    Shorter parts of a row stand ahead of it.
+    """
+    rows = [(), *rows_of(lot[1:])]
+    return rows + [lot[:1] + row for row in rows] if lot else rows
 
 
 def weavings(one, other):

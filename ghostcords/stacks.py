@@ -3,51 +3,74 @@
 Readings stand here as dicts: the tally over the others, for each cord of a lot.
 """
 
-from ghostcords.rows import weavings
+from ghostcords.rows import rows_of, weavings
 from ghostcords.seeing import name_count, others_of
 from ghostcords.tallies import blank_tally, product_tally
 
 
-def straight_tallies(lot):
-    """What the cords of a straight tangle see."""
-    return {cord: blank_tally(others_of(lot, cord)) for cord in lot}
+def tallies_of_form(form):
+    """What the cords see in each tangle with this Form.
+
+    In its knit tangle the greatest cord winds first, and below it hangs that of the lesser cords.
+    """
+    tallies = {}
+    for at, cord in enumerate(form.lot):
+        wound = tallies_of_wound(form.lot[:at + 1], cord, form.reading(cord).tally)
+        tallies = tallies_below(wound, tallies)
+    return tallies
 
 
 def tallies_below(upper, lower):
-    """What the cords see in a tangle with upper above one with lower."""
-    return {cord: product_tally(upper[cord], replaced_tally(lower[cord], upper)) for cord in upper}
+    """What the cords see with upper above lower, in which the cords that it lacks hang straight."""
+    rows = [(), *rows_of(tuple(upper))]
+    ways = letter_ways(upper, lower, [row for row in rows if len(row) < len(upper)])
+    tallies = {}
+    for cord, tally in upper.items():
+        if cord in lower:
+            replaced = {row: replaced_count(lower[cord], ways[row]) for row in tally}
+            tallies[cord] = product_tally(tally, replaced)
+        else:
+            tallies[cord] = tally
+    return tallies
 
 
-def replaced_tally(tally, upper):
-    """The tally with each letter replaced by the name that its cord has behind upper."""
-    return {row: replaced_count(tally, upper, row) for row in tally}
+def letter_ways(upper, cords, rows):
+    """How each of these rows, which stand in order, comes of letters of these cords.
 
-
-def replaced_count(tally, upper, row):
-    """The count of a row with each letter replaced by the name that its cord has behind upper.
-
-    Each part of the row, in all cuts into parts, is counted in the name of one of its cords.
+    Each letter is replaced by the name that its cord has behind upper, which counts a part of the row. For
+    each row a dict: for each row of letters the sum of the products of counts, over all cuts into parts.
     """
-    ways = [{(): 1}]
-    for end in range(1, len(row) + 1):
+    ways = {(): {(): 1}}
+    names = {row: part_names(upper, cords, row) for row in rows}
+    for row in rows[1:]:
         here = {}
-        for start in range(end):
-            for cords, total in ways[start].items():
-                for cord in row[start:end]:
-                    added = total * name_count(upper[cord], cord, row[start:end])
-                    here[cords + (cord,)] = here.get(cords + (cord,), 0) + added
-        ways.append(here)
-    return sum([total * tally[cords] for cords, total in ways[-1].items()])
+        for cut in range(len(row)):
+            for letter, count in names[row[cut:]]:
+                for ahead, total in ways[row[:cut]].items():
+                    letters = ahead + letter
+                    here[letters] = here.get(letters, 0) + total * count
+        ways[row] = here
+    return ways
+
+
+def part_names(upper, cords, row):
+    """The pairs of a row of one of these cords, and the count, other than 0, of a row in its name behind upper."""
+    pairs = [((cord,), name_count(upper[cord], cord, row)) for cord in row if cord in cords]
+    return [(letter, count) for letter, count in pairs if count != 0]
+
+
+def replaced_count(tally, ways):
+    """The count of a row with each letter replaced by a name, from the ways in which it comes of letters."""
+    return sum([total * tally.get(letters, 0) for letters, total in ways.items()])
 
 
 def tallies_of_wound(lot, cord, counts):
-    """What the cords see if this one winds by a word with these counts, the others hanging straight."""
-    tallies = straight_tallies(lot)
-    for other in lot:
-        if other == cord:
-            tallies[other] = {row: counts.get(row, 0) for row in tallies[other]}
-        elif other < cord:
-            tallies[other] = {row: count_of_lesser(other, cord, counts, row) for row in tallies[other]}
+    """What the cords of a lot see if its last one winds by a word with these counts, the others hanging straight."""
+    tallies = {}
+    for other in lot[:-1]:
+        rows = blank_tally(others_of(lot, other))
+        tallies[other] = {row: count_of_lesser(other, cord, counts, row) for row in rows}
+    tallies[cord] = counts
     return tallies
 
 

@@ -1,9 +1,9 @@
 """Windings: the words of which each reading is built in just one way."""
 
-from ghostcords.checks import first_twice, is_leading
-from ghostcords.errors import BadReading, BadRow, TooMany, Twice
+from ghostcords.checks import is_leading
+from ghostcords.errors import BadReading, BadRow, TooMany
 from ghostcords.needs import need_lot
-from ghostcords.readings import are_leads, need_reading, reading_of
+from ghostcords.readings import are_leads, counts_told, need_reading, reading_of
 from ghostcords.rows import leads_of
 from ghostcords.words import MOST_LETTERS, Word
 
@@ -41,12 +41,12 @@ def winding_counts(row):
 def wound_on(counts, row, times):
     """The counts of a word at the empty row and rows that lead, the winding of a row put behind so many times."""
     behind = winding_counts(row)
-    later = {}
+    later = {row: counts[row] + times}
     for lead, count in counts.items():
         cut = len(lead) - len(row)
-        added = times * behind.get(lead[cut:], 0) if cut >= 0 else 0
-        later[lead] = count + added * counts[lead[:cut]] if added != 0 else count
-    return later
+        if cut > 0 and lead[cut:] in behind:
+            later[lead] = count + times * behind[lead[cut:]] * counts[lead[:cut]]
+    return {lead: later.get(lead, count) for lead, count in counts.items()}
 
 
 def no_counts(lot):
@@ -73,17 +73,15 @@ def exponents(reading):
 def from_exponents(lot, pairs):
     """The Reading of the lot that has these exponents."""
     need_lot(lot, "lot")
-    if not are_leads(pairs, lot):
+    rows = leads_of(lot)
+    if not are_leads(pairs, rows):
         raise BadReading("pairs")
-    row_twice = first_twice([pair[0] for pair in pairs])
-    if row_twice is not None:
-        raise Twice(row_twice)
-    told = {tuple(row): times for row, times in pairs}
+    told = counts_told(pairs)
     counts = no_counts(lot)
-    for row in leads_of(lot):
+    for row in rows:
         if row in told:
             counts = wound_on(counts, row, told[row])
-    return reading_of(lot, counts)
+    return reading_of(tuple(lot), counts)
 
 
 def letters_of(reading):

@@ -10,7 +10,7 @@ ROOT = os.path.dirname(os.path.dirname(os.path.abspath(__file__)))
 PACKAGE = os.path.join(ROOT, "ghostcords")
 
 BUILTINS = set("""len range enumerate zip min max sum abs sorted reversed int str bool list tuple dict set isinstance
-repr any all divmod type Exception ValueError staticmethod""".split())
+repr any all divmod type Exception ValueError staticmethod property""".split())
 BUILTIN_METHODS = set("""append clear copy count endswith extend find get index insert isalnum isalpha isdigit islower
 isspace isupper items join keys ljust lower lstrip partition pop remove replace reverse rfind rjust rpartition rsplit
 rstrip setdefault split splitlines startswith strip update upper values zfill bit_length add discard""".split())
@@ -198,7 +198,7 @@ class Language(unittest.TestCase):
                         if function.name.startswith("__"):
                             self.assertIn(function.name, METHODS)
                         for decorator in function.decorator_list:
-                            self.assertEqual(decorator.id, "staticmethod")
+                            self.assertIn(decorator.id, ("staticmethod", "property"))
 
     def test_attributes_are_not_methods(self):
         stored = {node.attr for tree in TREES.values() for node in ast.walk(tree)
