@@ -2,7 +2,8 @@
 
 from ghostcords.checks import is_row_of
 from ghostcords.exact import is_exactly
-from ghostcords.tables import Breaks, Fits, both_sides, fits, have_common, table_of
+from ghostcords.lots import have_common
+from ghostcords.tables import Breaks, Fits, both_sides, fits, table_of
 
 
 def shows_fits(lot, counts, value):

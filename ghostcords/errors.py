@@ -17,7 +17,7 @@ class BadRow(CordError):
     """Raised for what is no row, or not one that is asked for."""
 
     def __init__(self, part):
-        CordError.__init__(self, f"no such row: {shown(part)}")
+        super().__init__(f"no such row: {shown(part)}")
         self.part = part
 
 
@@ -25,7 +25,7 @@ class BadLot(CordError):
     """Raised for what is no lot, or not one that is asked for."""
 
     def __init__(self, part):
-        CordError.__init__(self, f"no such lot: {shown(part)}")
+        super().__init__(f"no such lot: {shown(part)}")
         self.part = part
 
 
@@ -33,7 +33,7 @@ class BadWord(CordError):
     """Raised for what is no word."""
 
     def __init__(self, part):
-        CordError.__init__(self, f"no word: {shown(part)}")
+        super().__init__(f"no word: {shown(part)}")
         self.part = part
 
 
@@ -41,7 +41,7 @@ class BadReading(CordError):
     """Raised for what is no reading, or no table of counts."""
 
     def __init__(self, part):
-        CordError.__init__(self, f"no reading: {shown(part)}")
+        super().__init__(f"no reading: {shown(part)}")
         self.part = part
 
 
@@ -49,7 +49,7 @@ class BadTangle(CordError):
     """Raised for what is no tangle."""
 
     def __init__(self, part):
-        CordError.__init__(self, f"no tangle: {shown(part)}")
+        super().__init__(f"no tangle: {shown(part)}")
         self.part = part
 
 
@@ -57,7 +57,7 @@ class BadForm(CordError):
     """Raised for what is no form."""
 
     def __init__(self, part):
-        CordError.__init__(self, f"no form: {shown(part)}")
+        super().__init__(f"no form: {shown(part)}")
         self.part = part
 
 
@@ -65,7 +65,7 @@ class BadFamily(CordError):
     """Raised for what is no family."""
 
     def __init__(self, part):
-        CordError.__init__(self, f"no family: {shown(part)}")
+        super().__init__(f"no family: {shown(part)}")
         self.part = part
 
 
@@ -73,7 +73,7 @@ class BadSaying(CordError):
     """Raised for what is no saying."""
 
     def __init__(self, part):
-        CordError.__init__(self, f"no saying: {shown(part)}")
+        super().__init__(f"no saying: {shown(part)}")
         self.part = part
 
 
@@ -81,7 +81,7 @@ class BadBook(CordError):
     """Raised for what is no book."""
 
     def __init__(self, part):
-        CordError.__init__(self, f"no book: {shown(part)}")
+        super().__init__(f"no book: {shown(part)}")
         self.part = part
 
 
@@ -89,7 +89,7 @@ class BadPattern(CordError):
     """Raised for what is no polynomial, pattern or weave."""
 
     def __init__(self, part):
-        CordError.__init__(self, f"no pattern: {shown(part)}")
+        super().__init__(f"no pattern: {shown(part)}")
         self.part = part
 
 
@@ -97,7 +97,7 @@ class BadPicture(CordError):
     """Raised for what are no pictures."""
 
     def __init__(self, part):
-        CordError.__init__(self, f"no pictures: {shown(part)}")
+        super().__init__(f"no pictures: {shown(part)}")
         self.part = part
 
 
@@ -105,7 +105,7 @@ class BadRing(CordError):
     """Raised for what are no rings."""
 
     def __init__(self, part):
-        CordError.__init__(self, f"no rings: {shown(part)}")
+        super().__init__(f"no rings: {shown(part)}")
         self.part = part
 
 
@@ -113,7 +113,7 @@ class BadNumber(CordError):
     """Raised for what is no integer within its bounds."""
 
     def __init__(self, part):
-        CordError.__init__(self, f"no such number: {shown(part)}")
+        super().__init__(f"no such number: {shown(part)}")
         self.part = part
 
 
@@ -121,7 +121,7 @@ class BadPaper(CordError):
     """Raised for what is no paper of the class that is asked for."""
 
     def __init__(self, part):
-        CordError.__init__(self, f"no such paper: {shown(part)}")
+        super().__init__(f"no such paper: {shown(part)}")
         self.part = part
 
 
@@ -129,7 +129,7 @@ class BadDesk(CordError):
     """Raised for what is no desk, or nothing that a desk keeps."""
 
     def __init__(self, part):
-        CordError.__init__(self, f"no desk: {shown(part)}")
+        super().__init__(f"no desk: {shown(part)}")
         self.part = part
 
 
@@ -137,7 +137,7 @@ class Misfit(CordError):
     """Raised for values that do not fit together."""
 
     def __init__(self, part):
-        CordError.__init__(self, f"no fit: {shown(part)}")
+        super().__init__(f"no fit: {shown(part)}")
         self.part = part
 
 
@@ -145,7 +145,7 @@ class Missing(CordError):
     """Any value that is none here; only the classes below it are raised."""
 
     def __init__(self, value):
-        CordError.__init__(self, f"none here: {shown(value)}")
+        super().__init__(f"none here: {shown(value)}")
         self.value = value
 
 
@@ -153,28 +153,28 @@ class NoCord(Missing):
     """Raised for what is no cord, or none of the lot that is asked."""
 
     def __init__(self, value):
-        Missing.__init__(self, value)
+        super().__init__(value)
 
 
 class NoFact(Missing):
     """Raised for what is the number of no fact."""
 
     def __init__(self, value):
-        Missing.__init__(self, value)
+        super().__init__(value)
 
 
 class NoName(Missing):
     """Raised for what is no name under which a thing is kept."""
 
     def __init__(self, value):
-        Missing.__init__(self, value)
+        super().__init__(value)
 
 
 class Twice(CordError):
     """Raised for a value that stands there already."""
 
     def __init__(self, value):
-        CordError.__init__(self, f"there already: {shown(value)}")
+        super().__init__(f"there already: {shown(value)}")
         self.value = value
 
 
@@ -182,7 +182,7 @@ class Impossible(CordError):
     """Raised with a denial that shows why there is no answer."""
 
     def __init__(self, paper):
-        CordError.__init__(self, "impossible, as the paper shows")
+        super().__init__("impossible, as the paper shows")
         self.paper = paper
 
 
@@ -190,7 +190,7 @@ class TooMany(CordError):
     """Raised where there are more than most."""
 
     def __init__(self, what, most):
-        CordError.__init__(self, f"too many: {shown(what)}")
+        super().__init__(f"too many: {shown(what)}")
         self.what = what
         self.most = most
 
@@ -199,14 +199,14 @@ class Nothing(CordError):
     """Raised where there is nothing to take."""
 
     def __init__(self):
-        CordError.__init__(self, "there is nothing")
+        super().__init__("there is nothing")
 
 
 class BadText(CordError):
     """Raised for a text in which a word cannot stand, or is missing."""
 
     def __init__(self, line, word):
-        CordError.__init__(self, "a word that cannot stand, or is missing")
+        super().__init__("a word that cannot stand, or is missing")
         self.line = line
         self.word = word
 
@@ -215,6 +215,6 @@ class BadLine(CordError):
     """Raised for a line of a desk, with the error raised there."""
 
     def __init__(self, line, error):
-        CordError.__init__(self, "a line that was refused")
+        super().__init__("a line that was refused")
         self.line = line
         self.error = error

@@ -38,3 +38,15 @@ def need_one_lot(one, other):
     """Raises Misfit for two lots that are unlike."""
     if one != other:
         raise Misfit("lot")
+
+
+def need_cords(cords, lot):
+    """Raises NoCord for the first of these cords that the lot lacks."""
+    for cord in cords:
+        need_cord(cord, lot)
+
+
+def need_two_cords(value, part):
+    """Raises BadLot for what is no lot of two or more cords."""
+    if not is_lot(value) or len(value) < 2:
+        raise BadLot(part)

@@ -26,7 +26,7 @@ class Denial(Paper):
     """A paper that says no: it is false."""
 
     def __init__(self, word, *parts):
-        Paper.__init__(self, word)
+        super().__init__(word)
         self.parts = fixed(parts)
 
     def __eq__(self, other):

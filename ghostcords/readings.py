@@ -13,15 +13,15 @@ from ghostcords.words import need_word
 def are_leads(value, rows):
     """Whether a value is a list of pairs of one of these rows and an integer."""
     known = {row: True for row in rows}
-    return is_list(value) and all([is_pair(pair) and is_lead(pair[0], pair[1], known) for pair in value])
-
-
-def is_lead(row, count, known):
-    """Whether any two values are a row that is known, and an integer."""
-    # What equals an integer need not be one, so the row is looked for only when it is made of them.
-    if not is_list(row) or not all([is_integer(cord) for cord in row]):
+    if not is_list(value) or not all([is_pair(pair) for pair in value]):
         return False
-    return tuple(row) in known and is_integer(count)
+    return all([is_known_row(row, known) and is_integer(count) for row, count in value])
+
+
+def is_known_row(row, known):
+    """Whether a value is one of the rows that are known."""
+    # What equals an integer need not be one, so the row is looked for only when it is made of them.
+    return is_list(row) and all([is_integer(cord) for cord in row]) and tuple(row) in known
 
 
 def counts_told(pairs):

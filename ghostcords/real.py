@@ -2,7 +2,7 @@
 
 from ghostcords.checks import is_list
 from ghostcords.errors import BadLot, BadReading, Misfit
-from ghostcords.forms import Form, all_places, form_of, need_form
+from ghostcords.forms import all_places, form_of, form_with, need_form
 from ghostcords.needs import need_lot, need_one_lot
 from ghostcords.papers import Denial, Paper, fixed
 from ghostcords.readings import Reading, reading_of
@@ -17,7 +17,7 @@ class Alike(Paper):
     """Two tangles are alike: the form of both."""
 
     def __init__(self, form):
-        Paper.__init__(self, "alike", form)
+        super().__init__("alike", form)
         self.form = fixed(form)
 
 
@@ -25,7 +25,7 @@ class Parted(Denial):
     """Two tangles are not alike: a cord, and a row that its readings count otherwise."""
 
     def __init__(self, cord, row, one, other):
-        Denial.__init__(self, "parted", cord, row, one, other)
+        super().__init__("parted", cord, row, one, other)
         self.cord = fixed(cord)
         self.row = fixed(row)
         self.one = fixed(one)
@@ -36,7 +36,7 @@ class Real(Paper):
     """Readings are those of a tangle: its form."""
 
     def __init__(self, form):
-        Paper.__init__(self, "real", form)
+        super().__init__("real", form)
         self.form = fixed(form)
 
 
@@ -44,19 +44,25 @@ class Unreal(Denial):
     """Readings are those of no tangle: a row, its count in the product, and in the bare one."""
 
     def __init__(self, row, one, other):
-        Denial.__init__(self, "unreal", row, one, other)
+        super().__init__("unreal", row, one, other)
         self.row = fixed(row)
         self.one = fixed(one)
         self.other = fixed(other)
 
 
-def alike(one, other):
-    """An Alike if two Tangles of one lot are alike, otherwise a Parted."""
+def both_seen(one, other):
+    """What the cords see in two Tangles of one lot, each a dict; raises what `alike` raises."""
     need_tangle(one, "one")
     need_tangle(other, "other")
     need_one_lot(one.lot, other.lot)
     _, seen = seen_behind(one, len(one))
     _, seen_in_other = seen_behind(other, len(other))
+    return seen, seen_in_other
+
+
+def alike(one, other):
+    """An Alike if two Tangles of one lot are alike, otherwise a Parted."""
+    seen, seen_in_other = both_seen(one, other)
     for cord in one.lot:
         for row in rows_of(others_of(one.lot, cord)):
             if seen[cord][row] != seen_in_other[cord][row]:
@@ -67,7 +73,7 @@ def alike(one, other):
 def all_readings(form):
     """The tuple of the readings of all cords, over the others, in each tangle with this Form."""
     need_form(form, "form")
-    tallies = tallies_of_form(form)
+    tallies = tallies_of_form(form, form.lot)
     return tuple([reading_of(others_of(form.lot, cord), tallies[cord]) for cord in form.lot])
 
 
@@ -113,4 +119,4 @@ def real(lot, readings):
         if product[row] != bare_count(row):
             return Unreal(row, product[row], bare_count(row))
     seen = {cord: readings[at].tally for at, cord in enumerate(lot)}
-    return Real(Form(lot, [((cord, row), seen[cord][row]) for cord, row in all_places(lot)]))
+    return Real(form_with(tuple(lot), {(cord, row): seen[cord][row] for cord, row in all_places(lot)}))

@@ -3,21 +3,28 @@
 Readings stand here as dicts: the tally over the others, for each cord of a lot.
 """
 
+from ghostcords.forms import lesser_of, numbers_of
 from ghostcords.rows import rows_of, weavings
 from ghostcords.seeing import name_count, others_of
-from ghostcords.tallies import blank_tally, product_tally
+from ghostcords.tallies import all_leads, blank_tally, full_tally, product_tally
 
 
-def tallies_of_form(form):
-    """What the cords see in each tangle with this Form.
+def tallies_of_form(form, lot):
+    """What the first cords of a Form, which make this lot, see in each tangle with this form without the others.
 
     In its knit tangle the greatest cord winds first, and below it hangs that of the lesser cords.
     """
     tallies = {}
-    for at, cord in enumerate(form.lot):
-        wound = tallies_of_wound(form.lot[:at + 1], cord, form.reading(cord).tally)
+    for at, cord in enumerate(lot):
+        wound = tallies_of_wound(lot[:at + 1], cord, form_tally(form, cord))
         tallies = tallies_below(wound, tallies)
     return tallies
+
+
+def form_tally(form, cord):
+    """The tally over the lesser cords with the numbers of a cord of a Form."""
+    lesser = lesser_of(form.lot, cord)
+    return full_tally(lesser, all_leads(lesser, numbers_of(form, cord)))
 
 
 def tallies_below(upper, lower):

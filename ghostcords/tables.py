@@ -2,6 +2,7 @@
 
 from ghostcords.checks import first_twice, is_integer, is_list, is_pair, is_row_of
 from ghostcords.errors import BadReading, Twice
+from ghostcords.lots import have_common
 from ghostcords.needs import need_lot
 from ghostcords.papers import Denial, Paper, fixed
 from ghostcords.rows import leads_of, rows_of, weavings
@@ -11,7 +12,7 @@ class Fits(Paper):
     """A table fits: its integers, other than 0, at the rows that lead."""
 
     def __init__(self, leads):
-        Paper.__init__(self, "fits", leads)
+        super().__init__("fits", leads)
         self.leads = fixed(leads)
 
 
@@ -19,7 +20,7 @@ class Breaks(Denial):
     """A table does not fit: two rows at which the order rule fails, and both sides of it."""
 
     def __init__(self, one, other, product, total):
-        Denial.__init__(self, "breaks", one, other, product, total)
+        super().__init__("breaks", one, other, product, total)
         self.one = fixed(one)
         self.other = fixed(other)
         self.product = fixed(product)
@@ -47,11 +48,6 @@ def table_of(lot, counts):
 def both_sides(table, one, other):
     """The product of the integers at two rows, and the total of those at their weavings."""
     return table[one] * table[other], sum([table[row] for row in weavings(one, other)])
-
-
-def have_common(one, other):
-    """Whether two rows have a common cord."""
-    return any([cord in other for cord in one])
 
 
 def fits(lot, counts):

@@ -4,6 +4,7 @@ A tally of a lot has the count of each row of cords of the lot, the empty one to
 of the key rows of the lot alone, which tell all others; it is much smaller where there are many cords.
 """
 
+from ghostcords.overs import ways_over
 from ghostcords.rows import key_rows, leads_of, rows_of
 
 
@@ -16,10 +17,16 @@ def blank_tally(lot):
 
 def key_tally(lot, leads):
     """The key tally with these counts, a dict, at the rows that lead; rows that it lacks have 0."""
-    counts = {row: leads.get(row, 0) for row in leads_of(lot)}
-    counts[()] = 1
+    counts = all_leads(lot, leads)
     tail = full_tally(lot[1:], counts)
     return {row: tail[row] if row in tail else counts[row] for row in key_rows(lot)}
+
+
+def all_leads(lot, leads):
+    """The counts at the empty row and at all rows that lead, those that are lacking being 0."""
+    counts = {row: leads.get(row, 0) for row in leads_of(lot)}
+    counts[()] = 1
+    return counts
 
 
 def full_tally(lot, known):
@@ -60,9 +67,8 @@ def woven_count(known, ahead, one, other):
 
 def lead_counts(letters, lot):
     """The counts of the word with these letters at the rows of a lot that lead, and the empty one."""
-    counts = {row: 0 for row in leads_of(lot)}
-    ending = {cord: [lead for lead in counts if lead[-1] == cord] for cord in lot}
-    counts[()] = 1
+    counts = all_leads(lot, {})
+    ending = {cord: [lead for lead in counts if lead[-1:] == (cord,)] for cord in lot}
     for cord, sign in letters:
         # No row of these has the cord twice, so none of their beginnings is among them.
         for row in ending.get(cord, ()):
@@ -91,19 +97,6 @@ def opposite_tally(tally):
             # A word and its opposite behind it count 0 at this row, over all cuts.
             opposite[row] = -sum([tally[row[:cut]] * opposite[row[cut:]] for cut in range(1, len(row) + 1)])
     return opposite
-
-
-def over(times, parts):
-    """The integer times over parts: times (times - 1) .. divided by parts!."""
-    result = 1
-    for part in range(parts):
-        result = result * (times - part) // (part + 1)
-    return result
-
-
-def ways_over(times, lot_size):
-    """The list of times over 0, 1, .. up to the size of a lot."""
-    return [over(times, parts) for parts in range(lot_size + 1)]
 
 
 def part_sums(tally, sums, row):

@@ -1,6 +1,7 @@
 """Texts: words with single blanks between, read word by word."""
 
 from ghostcords.errors import BadText
+from ghostcords.lots import lies_in
 
 DIGITS = "0123456789"
 CORD_DIGITS = "01234"
@@ -64,13 +65,13 @@ def read_numbers(words, start, keys):
     at = start
     left = keys
     while at < len(words) or pairs:
-        key, at = read_key(words, at, left)
-        number = integer_of(words[at]) if at < len(words) else None
+        key, at = read_key(words, at, left, "=")
+        number = integer_of(words[at + 1]) if at + 1 < len(words) else None
         if not number:
-            raise BadText(0, at)
+            raise BadText(0, min(at + 1, len(words)))
         pairs.append((key, number))
         left = left[left.index(key) + 1:]
-        at += 1
+        at += 2
         if at == len(words):
             return pairs
         if words[at] != "/" or not left:
@@ -79,26 +80,57 @@ def read_numbers(words, start, keys):
     return pairs
 
 
-def read_key(words, start, keys):
-    """The first key that the words from start on tell, and the number of the word behind its sign."""
+def read_lots(words, start, lots):
+    """The lots that the words from start on tell, in the order of these lots, none of which lies in another one."""
+    told = []
+    at = start
+    left = lots
+    while at < len(words) or told:
+        key, at = read_key(words, at, left, "/")
+        told.append(key)
+        left = [lot for lot in left[left.index(key) + 1:] if not lies_in(key, lot)]
+        if at == len(words):
+            return told
+        if not left:
+            raise BadText(0, at)
+        at += 1
+    return told
+
+
+def read_key(words, start, keys, stop):
+    """The key that the words from start on tell, up to a word that stops it or the end, and where this is."""
     told = ()
     for at in range(start, len(words)):
-        if words[at] == "=" and told in keys:
-            return told, at + 1
+        if words[at] == stop and told in keys:
+            return told, at
         told = told + (cord_of(words[at]),)
         if all([key[:len(told)] != told for key in keys]):
             raise BadText(0, at)
-    raise BadText(0, len(words))
+    if told not in keys:
+        raise BadText(0, len(words))
+    return told, len(words)
 
 
 def told_words(lot, pairs):
     """The words of a lot, and of pairs of a key, a tuple of cords, and an integer."""
-    words = [str(cord) for cord in lot]
-    words.append(":")
-    for at, (key, number) in enumerate(pairs):
+    return [*cord_words(lot), ":", *with_slashes([[*cord_words(key), "=", str(number)] for key, number in pairs])]
+
+
+def lots_words(lot, lots):
+    """The words of a lot, and of some lots."""
+    return [*cord_words(lot), ":", *with_slashes([cord_words(own) for own in lots])]
+
+
+def cord_words(cords):
+    """The words that tell cords."""
+    return [str(cord) for cord in cords]
+
+
+def with_slashes(parts):
+    """The words of lists of words, with a slash between two."""
+    words = []
+    for at, part in enumerate(parts):
         if at > 0:
             words.append("/")
-        words.extend([str(cord) for cord in key])
-        words.append("=")
-        words.append(str(number))
+        words.extend(part)
     return words

@@ -5,6 +5,7 @@ from ghostcords.errors import BadReading, BadRow, TooMany
 from ghostcords.needs import need_lot
 from ghostcords.readings import are_leads, counts_told, need_reading, reading_of
 from ghostcords.rows import leads_of
+from ghostcords.tallies import all_leads
 from ghostcords.words import MOST_LETTERS, Word
 
 WINDING_LETTERS = (0, 1, 4, 10, 22, 46)
@@ -38,35 +39,28 @@ def winding_counts(row):
     return counts
 
 
-def wound_on(counts, row, times):
-    """The counts of a word at the empty row and rows that lead, the winding of a row put behind so many times."""
+def counts_wound(counts, row, times):
+    """The counts of a word at rows that lead, where they change with the winding of a row behind so many times."""
     behind = winding_counts(row)
     later = {row: counts[row] + times}
     for lead, count in counts.items():
         cut = len(lead) - len(row)
         if cut > 0 and lead[cut:] in behind:
             later[lead] = count + times * behind[lead[cut:]] * counts[lead[:cut]]
-    return {lead: later.get(lead, count) for lead, count in counts.items()}
-
-
-def no_counts(lot):
-    """The counts of the empty word at the empty row and at the rows that lead."""
-    counts = {row: 0 for row in leads_of(lot)}
-    counts[()] = 1
-    return counts
+    return later
 
 
 def exponents(reading):
     """The tuple of the pairs (row, exponent) of a Reading that are not 0, in the order of the rows."""
     need_reading(reading, "reading")
     leads = {row: count for row, count in reading.leads}
-    counts = no_counts(reading.lot)
+    counts = all_leads(reading.lot, {})
     pairs = []
     for row in leads_of(reading.lot):
         times = leads.get(row, 0) - counts[row]
         if times != 0:
             pairs.append((row, times))
-            counts = wound_on(counts, row, times)
+            counts.update(counts_wound(counts, row, times))
     return tuple(pairs)
 
 
@@ -77,10 +71,10 @@ def from_exponents(lot, pairs):
     if not are_leads(pairs, rows):
         raise BadReading("pairs")
     told = counts_told(pairs)
-    counts = no_counts(lot)
+    counts = all_leads(lot, {})
     for row in rows:
         if row in told:
-            counts = wound_on(counts, row, told[row])
+            counts.update(counts_wound(counts, row, told[row]))
     return reading_of(tuple(lot), counts)
 
 

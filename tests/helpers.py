@@ -4,6 +4,8 @@ import itertools
 import random
 
 from ghostcords.errors import CordError
+from ghostcords.forms import Form, places_of
+from ghostcords.papers import Denial, Paper
 from ghostcords.tangles import Tangle
 from ghostcords.words import Word
 
@@ -91,3 +93,45 @@ def slow_count(letters, row):
 
 def seeded(number):
     return random.Random(number)
+
+
+def lots_of(lot, least=0):
+    """All lots of at least so many of these cords, in order."""
+    return [own for many in range(least, len(lot) + 1) for own in itertools.combinations(lot, many)]
+
+
+def random_form(chance, lot, most=5, likely=0.7):
+    return Form(lot, [(place, chance.randint(-most, most)) for place in places_of(lot) if chance.random() < likely])
+
+
+def shows_no_odd_value(test, shows, right):
+    """No value of another kind is right, no paper of another class, and none with another value as a part."""
+    kind = type(right)
+    test.assertIs(shows(right), True)
+    test.assertIs(shows(value=right), True)
+    test.assertIs(shows(kind(*[thawed(part) for part in right.parts])), True)
+    for value in ODD + GREAT + (right.parts, right.word, kind, Paper(right.word, *right.parts),
+                                Denial(right.word, *right.parts)):
+        test.assertIs(shows(value), False)
+        for at, part in enumerate(right.parts):
+            if not (type(value) is type(part) and value == part):
+                test.assertIs(shows(kind(*right.parts[:at], value, *right.parts[at + 1:])), False, (at, value))
+    for at, part in enumerate(right.parts):
+        for bent in bends(part):
+            test.assertIs(shows(kind(*right.parts[:at], bent, *right.parts[at + 1:])), False, (at, bent))
+
+
+def thawed(value):
+    """The value with each tuple in it as a list."""
+    return [thawed(item) for item in value] if isinstance(value, tuple) else value
+
+
+def bends(value):
+    """The value with True, False and floats for its numbers, one after the other."""
+    if isinstance(value, int) and not isinstance(value, bool):
+        yield from ([float(value)] if abs(value) < 10 ** 15 else [])
+        yield from ([bool(value)] if value in (0, 1) else [])
+    if isinstance(value, tuple):
+        for at, item in enumerate(value):
+            for bent in bends(item):
+                yield value[:at] + (bent,) + value[at + 1:]

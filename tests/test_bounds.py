@@ -3,6 +3,11 @@
 import time
 import unittest
 
+from ghostcords.below import Root, below, repeated, root_of, undoing
+from ghostcords.beside import go_past
+from ghostcords.check_below import shows_past, shows_root
+from ghostcords.cuts import cheapest_cut, is_cut
+from ghostcords.families import families, family_of, form_for
 from ghostcords.forms import Form, form_of, places_of
 from ghostcords.ghosts import put_in, swaps
 from ghostcords.knit import crossings_of
@@ -58,6 +63,29 @@ class Bounds(unittest.TestCase):
             self.assertEqual(reading.repeated(great).root(great), reading)
             self.assertEqual(~~(reading * reading), reading.repeated(2))
             self.assertEqual(fits(LOT, reading.counts()).leads, reading.leads)
+
+    def test_forms_below_one_another(self):
+        for great in (10 ** 25, 10 ** 60 + 1, -10 ** 500):
+            one = Form(LOT, [(place, great + at) for at, place in enumerate(places_of(LOT))])
+            other = Form(LOT, [(place, great - at * at) for at, place in enumerate(places_of(LOT))])
+            start = time.process_time()
+            for _ in range(20):
+                both = below(one, other)
+                times = repeated(both, great)
+                self.assertEqual(root_of(times, great).root, both)
+                self.assertEqual(below(undoing(both), both), Form(LOT))
+                self.assertFalse(go_past(one, other))
+            self.assertLess(time.process_time() - start, 3)
+            self.assertTrue(shows_root(times, great, Root(both)))
+            self.assertTrue(shows_past(one, other, go_past(one, other)))
+
+    def test_families_and_cuts(self):
+        start = time.process_time()
+        for family in families(4):
+            for prices in ((1, 1, 1, 1), (10 ** 30, 1, 2, 10 ** 30 + 1)):
+                self.assertTrue(is_cut(family, cheapest_cut(family, prices).cords))
+            self.assertEqual(family_of(form_for(family)), family)
+        self.assertLess(time.process_time() - start, 2)
 
 
 if __name__ == "__main__":

@@ -10,7 +10,7 @@ ROOT = os.path.dirname(os.path.dirname(os.path.abspath(__file__)))
 PACKAGE = os.path.join(ROOT, "ghostcords")
 
 BUILTINS = set("""len range enumerate zip min max sum abs sorted reversed int str bool list tuple dict set isinstance
-repr any all divmod type Exception ValueError staticmethod property""".split())
+repr any all divmod type Exception ValueError staticmethod property super""".split())
 BUILTIN_METHODS = set("""append clear copy count endswith extend find get index insert isalnum isalpha isdigit islower
 isspace isupper items join keys ljust lower lstrip partition pop remove replace reverse rfind rjust rpartition rsplit
 rstrip setdefault split splitlines startswith strip update upper values zfill bit_length add discard""".split())
@@ -20,8 +20,9 @@ methodcaller os quit setattr super vars sys typing enum Enum Generic Protocol AB
 NODES = set("""Module Expr Constant ImportFrom alias FunctionDef arguments arg ClassDef Assign AugAssign Return If While
 For Break Continue Pass Raise Call Name Attribute Subscript Slice Load Store BinOp UnaryOp BoolOp Compare IfExp List
 Tuple Dict Set ListComp DictComp SetComp comprehension JoinedStr FormattedValue Starred keyword Add Sub Mult FloorDiv
-Mod And Or Not USub Invert Eq NotEq Lt LtE Gt GtE Is IsNot In NotIn""".split())
+Mod And Or Not USub Invert Yield Eq NotEq Lt LtE Gt GtE Is IsNot In NotIn""".split())
 METHODS = set("""__init__ __eq__ __str__ __len__ __bool__ __mul__ __invert__""".split())
+BOTH = ("root",)
 LISTED = {
     "papers": {"Paper": ["__init__", "__eq__"], "Denial": ["__init__", "__eq__"]},
     "words": {"Word": ["__init__", "__len__", "__mul__", "__invert__", "count", "without", "as_one", "renamed", "__eq__",
@@ -33,6 +34,10 @@ LISTED = {
     "forms": {"Form": ["__init__", "number", "reading", "__eq__", "__str__", "read"]},
     "tables": {"Fits": ["__init__"], "Breaks": ["__init__"]},
     "real": {"Alike": ["__init__"], "Parted": ["__init__"], "Real": ["__init__"], "Unreal": ["__init__"]},
+    "below": {"Root": ["__init__"], "NoRoot": ["__init__"]},
+    "beside": {"Past": ["__init__"], "Crosswise": ["__init__"]},
+    "families": {"Family": ["__init__", "holds", "all_held", "without", "__eq__", "__str__", "read"]},
+    "cuts": {"Cut": ["__init__"], "Cheapest": ["__init__"]},
 }
 FUNCTIONS = {
     "checks": "is_integer is_within is_name is_cord is_row is_lot is_leading row_key first_twice",
@@ -46,6 +51,13 @@ FUNCTIONS = {
     "forms": "places_of form_of",
     "knit": "wind knit crossings_of",
     "real": "alike all_readings real",
+    "check_forms": "shows_alike shows_knit shows_real",
+    "below": "below undoing repeated root_of left_out widened full_round",
+    "beside": "beside named lots_past go_past",
+    "check_below": "shows_past shows_root",
+    "holds": "is_held held least_held loose spare",
+    "families": "families family_of form_for joined both",
+    "cuts": "is_cut least_cuts fewest_cut cheapest_cut",
 }
 
 
@@ -203,15 +215,58 @@ class Language(unittest.TestCase):
     def test_attributes_are_not_methods(self):
         stored = {node.attr for tree in TREES.values() for node in ast.walk(tree)
                   if isinstance(node, ast.Attribute) and isinstance(node.ctx, ast.Store)}
+        called = {node.func.attr for tree in TREES.values() for node in ast.walk(tree)
+                  if isinstance(node, ast.Call) and isinstance(node.func, ast.Attribute)}
         for _, tree in self.each():
             for node in tree.body:
                 if isinstance(node, ast.ClassDef):
+                    here = {own.attr for own in ast.walk(node)
+                            if isinstance(own, ast.Attribute) and isinstance(own.ctx, ast.Store)}
                     for function in functions(node):
-                        self.assertNotIn(function.name, stored)
+                        if function.name in stored:
+                            # The interface has a method and an attribute of a paper of one name.
+                            self.assertIn(function.name, BOTH)
+                            self.assertEqual(function.decorator_list, [])
+                            self.assertNotIn(function.name, here | called)
         for name in stored:
             self.assertRegex(name, r"^_?[a-z][a-z_]*$")
             for value in ("", 0, [], {}, set(), b""):
                 self.assertFalse(hasattr(value, name), name)
+
+    def test_methods_are_not_read_off_classes(self):
+        classes = {name: node for tree in TREES.values() for name, node in module_names(tree).items()
+                   if isinstance(node, ast.ClassDef)}
+        for _, tree in self.each():
+            for node in ast.walk(tree):
+                if isinstance(node, ast.Attribute) and isinstance(node.value, ast.Name) and node.value.id in classes:
+                    own = [function for function in functions(classes[node.value.id]) if function.name == node.attr]
+                    self.assertEqual([name.id for function in own for name in function.decorator_list],
+                                     ["staticmethod"], node.attr)
+
+    def test_generators(self):
+        own = [function for tree in TREES.values() for function in functions(tree)]
+        yielding = [function for function in own if any(isinstance(node, ast.Yield) for node in ast.walk(function))]
+        for generator in yielding:
+            self.assertEqual([function.name for function in own].count(generator.name), 1)
+            self.assertNotIn(generator.name, BUILTIN_METHODS)
+            for tree in TREES.values():
+                for node in ast.walk(tree):
+                    self.assertFalse(isinstance(node, ast.Name) and node.id == generator.name, generator.name)
+
+    def test_sets_are_sorted_measured_or_asked(self):
+        for _, tree in self.each():
+            parents = {child: node for node in ast.walk(tree) for child in ast.iter_child_nodes(node)}
+            for node in ast.walk(tree):
+                made = isinstance(node, ast.Call) and isinstance(node.func, ast.Name) and node.func.id == "set"
+                if made or isinstance(node, (ast.Set, ast.SetComp)):
+                    parent = parents[node]
+                    if isinstance(parent, ast.Assign):
+                        self.assertIsInstance(parent.targets[0], ast.Name)
+                    elif isinstance(parent, ast.Call):
+                        self.assertIn(parent.func.id, ("sorted", "len"))
+                    else:
+                        self.assertIsInstance(parent, ast.Compare)
+                self.assertFalse(isinstance(node, ast.Set) and any(isinstance(own, ast.Starred) for own in node.elts))
 
     def test_raises(self):
         errors = module_names(TREES["errors.py"])

@@ -1,13 +1,18 @@
 import unittest
 
+from ghostcords.below import NoRoot, Root
+from ghostcords.beside import Crosswise, Past
+from ghostcords.cuts import Cheapest, Cut
 from ghostcords.papers import Denial, Paper, fixed
 from ghostcords.real import Alike, Parted, Real, Unreal
 from ghostcords.tables import Breaks, Fits
 from helpers import GREAT, ODD, nested
 
 CLASSES = {Fits: ("leads",), Alike: ("form",), Real: ("form",), Breaks: ("one", "other", "product", "total"),
-           Parted: ("cord", "row", "one", "other"), Unreal: ("row", "one", "other")}
-DENIALS = (Breaks, Parted, Unreal)
+           Parted: ("cord", "row", "one", "other"), Unreal: ("row", "one", "other"), Root: ("root",),
+           NoRoot: ("rest", "cord", "row"), Past: (), Crosswise: ("cord", "row", "one", "other"), Cut: ("cords", "held"),
+           Cheapest: ("cords", "price", "held")}
+DENIALS = (Breaks, Parted, Unreal, NoRoot, Crosswise)
 
 
 class Papers(unittest.TestCase):
