@@ -1,17 +1,12 @@
 """t over k, and polynomials told by the numbers that stand ahead of t over 0, t over 1 and so on."""
 
 
-def over(times, parts):
-    """The integer times over parts: times (times - 1) .. divided by parts!."""
-    result = 1
-    for part in range(parts):
-        result = result * (times - part) // (part + 1)
-    return result
-
-
 def ways_over(times, most):
-    """The list of times over 0, 1, .. up to most."""
-    return [over(times, parts) for parts in range(most + 1)]
+    """The list of times over 0, 1, .. up to most, none if this is -1."""
+    ways = [1]
+    for part in range(most):
+        ways.append(ways[-1] * (times - part) // (part + 1))
+    return ways[:most + 1]
 
 
 def value_at(numbers, times):

@@ -20,8 +20,8 @@ methodcaller os quit setattr super vars sys typing enum Enum Generic Protocol AB
 NODES = set("""Module Expr Constant ImportFrom alias FunctionDef arguments arg ClassDef Assign AugAssign Return If While
 For Break Continue Pass Raise Call Name Attribute Subscript Slice Load Store BinOp UnaryOp BoolOp Compare IfExp List
 Tuple Dict Set ListComp DictComp SetComp comprehension JoinedStr FormattedValue Starred keyword Add Sub Mult FloorDiv
-Mod And Or Not USub Invert Yield Eq NotEq Lt LtE Gt GtE Is IsNot In NotIn""".split())
-METHODS = set("""__init__ __eq__ __str__ __len__ __bool__ __mul__ __invert__""".split())
+Mod And Or Not USub Invert Yield LShift Eq NotEq Lt LtE Gt GtE Is IsNot In NotIn""".split())
+METHODS = set("""__init__ __eq__ __str__ __len__ __bool__ __mul__ __invert__ __add__ __sub__ __neg__""".split())
 BOTH = ("root",)
 LISTED = {
     "papers": {"Paper": ["__init__", "__eq__"], "Denial": ["__init__", "__eq__"]},
@@ -38,6 +38,14 @@ LISTED = {
     "beside": {"Past": ["__init__"], "Crosswise": ["__init__"]},
     "families": {"Family": ["__init__", "holds", "all_held", "without", "__eq__", "__str__", "read"]},
     "cuts": {"Cut": ["__init__"], "Cheapest": ["__init__"]},
+    "sayings": {"Saying": ["is_so", "__eq__", "__str__", "read"], "Held": ["__init__", "is_so", "__eq__", "__str__"],
+                "Free": ["__init__", "is_so", "__eq__", "__str__"], "Least": ["__init__", "is_so", "__eq__", "__str__"],
+                "Spare": ["__init__", "is_so", "__eq__", "__str__"], "Falls": ["__init__", "is_so", "__eq__", "__str__"]},
+    "books": {"Book": ["__init__", "__len__", "with_fact", "without", "keeps", "__eq__"]},
+    "answers": {"Kept": ["__init__"], "NotKept": ["__init__"], "Surely": ["__init__"], "Never": ["__init__"],
+                "Either": ["__init__"], "Struck": ["__init__"]},
+    "polynomials": {"Binomial": ["__init__", "at", "__add__", "__sub__", "__mul__", "__neg__", "put", "__eq__"]},
+    "patterns": {"Pattern": ["__init__", "__len__", "__mul__", "__invert__", "put", "__eq__", "word_at", "at"]},
 }
 FUNCTIONS = {
     "checks": "is_integer is_within is_name is_cord is_row is_lot is_leading row_key first_twice",
@@ -58,6 +66,12 @@ FUNCTIONS = {
     "holds": "is_held held least_held loose spare",
     "families": "families family_of form_for joined both",
     "cuts": "is_cut least_cuts fewest_cut cheapest_cut",
+    "check_cuts": "shows_cut shows_cheapest",
+    "answers": "clash possible least_family greatest_family word_of struck",
+    "check_answers": "shows_possible shows_word shows_struck",
+    "polynomials": "through",
+    "roots": "roots_of common_roots",
+    "patterns": "counted",
 }
 
 
@@ -267,6 +281,16 @@ class Language(unittest.TestCase):
                     else:
                         self.assertIsInstance(parent, ast.Compare)
                 self.assertFalse(isinstance(node, ast.Set) and any(isinstance(own, ast.Starred) for own in node.elts))
+
+    def test_views_and_ranges_are_not_kept(self):
+        kept = ("zip", "enumerate", "reversed", "map", "items", "keys", "values")
+        for _, tree in self.each():
+            for function in functions(tree):
+                names = kept + (("range",) if function.name.startswith("__") and function.name != "__init__" else ())
+                for node in ast.walk(function):
+                    if isinstance(node, (ast.Assign, ast.Return)) and isinstance(node.value, ast.Call):
+                        called = node.value.func
+                        self.assertNotIn(called.id if isinstance(called, ast.Name) else called.attr, names, node.lineno)
 
     def test_raises(self):
         errors = module_names(TREES["errors.py"])

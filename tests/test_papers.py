@@ -1,5 +1,6 @@
 import unittest
 
+from ghostcords.answers import Either, Kept, Never, NotKept, Struck, Surely
 from ghostcords.below import NoRoot, Root
 from ghostcords.beside import Crosswise, Past
 from ghostcords.cuts import Cheapest, Cut
@@ -11,8 +12,9 @@ from helpers import GREAT, ODD, nested
 CLASSES = {Fits: ("leads",), Alike: ("form",), Real: ("form",), Breaks: ("one", "other", "product", "total"),
            Parted: ("cord", "row", "one", "other"), Unreal: ("row", "one", "other"), Root: ("root",),
            NoRoot: ("rest", "cord", "row"), Past: (), Crosswise: ("cord", "row", "one", "other"), Cut: ("cords", "held"),
-           Cheapest: ("cords", "price", "held")}
-DENIALS = (Breaks, Parted, Unreal, NoRoot, Crosswise)
+           Cheapest: ("cords", "price", "held"), Kept: ("family",), NotKept: ("held", "free"), Surely: ("numbers",),
+           Never: ("numbers",), Either: ("one", "other"), Struck: ("numbers", "clashes")}
+DENIALS = (Breaks, Parted, Unreal, NoRoot, Crosswise, NotKept, Never)
 
 
 class Papers(unittest.TestCase):
