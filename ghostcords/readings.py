@@ -71,10 +71,10 @@ class Reading:
     def count(self, row):
         """The count of a row, 0 if it has a cord that is not in the lot."""
         need_row(row, "row")
-        if any([cord not in self.lot for cord in row]):
-            return 0
         told = tuple(row)
-        return self._keys[told] if told in self._keys else told_count(self._keys, told)
+        if told in self._keys:
+            return self._keys[told]
+        return told_count(self._keys, told) if all([cord in self.lot for cord in told]) else 0
 
     def counts(self):
         """The tuple of the pairs (row, count) of all rows of the lot but the empty one, in order."""

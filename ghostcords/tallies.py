@@ -35,10 +35,12 @@ def full_tally(lot, known):
     turned = {}
     for row in rows_of(lot):
         if row in known:
-            tally[row] = turned[row] = known[row]
+            tally[row] = known[row]
+            turned[row] = known[row]
         else:
             at = row.index(min(row))
-            total = turned[row] = turned_count(known, row, at)
+            turned[row] = turned_count(known, row, at)
+            total = turned[row]
             for cut in range(1, at + 1):
                 total = total + tally[row[:cut]] * turned[row[cut:]]
             tally[row] = total

@@ -3,8 +3,11 @@
 import time
 import unittest
 
+from ghostcords.answers import greatest_family, struck, word_of
 from ghostcords.below import Root, below, repeated, root_of, undoing
 from ghostcords.beside import go_past
+from ghostcords.books import Book
+from ghostcords.check_answers import shows_word
 from ghostcords.check_below import shows_past, shows_root
 from ghostcords.cuts import cheapest_cut, is_cut
 from ghostcords.families import families, family_of, form_for
@@ -14,6 +17,7 @@ from ghostcords.knit import crossings_of
 from ghostcords.names import names_behind, readings
 from ghostcords.readings import Reading
 from ghostcords.real import alike, all_readings, real
+from ghostcords.sayings import Falls, Free, Held, Least, Spare
 from ghostcords.slides import slides
 from ghostcords.tables import fits
 from ghostcords.windings import exponents, from_exponents, leading_rows, letters_of
@@ -86,6 +90,21 @@ class Bounds(unittest.TestCase):
                 self.assertTrue(is_cut(family, cheapest_cut(family, prices).cords))
             self.assertEqual(family_of(form_for(family)), family)
         self.assertLess(time.process_time() - start, 2)
+
+    def test_books_of_twelve_facts(self):
+        helds = [Held(lot) for lot in ((0, 1), (1, 2), (2, 3), (3, 4), (0, 2, 4), (1, 3, 4))]
+        frees = [Free(lot) for lot in ((0, 4), (1, 4), (0, 3), (2, 4), (1, 3), (0, 2))]
+        book = Book(LOT, helds + frees)
+        start = time.process_time()
+        for _ in range(10):
+            for saying in [Spare(cord) for cord in LOT] + [Falls(many) for many in range(6)]:
+                self.assertTrue(shows_word(book, saying, word_of(book, saying)))
+            for lot in greatest_family(book).all_held():
+                for saying in (Held(lot), Free(lot), Least(lot)):
+                    self.assertTrue(shows_word(book, saying, word_of(book, saying)))
+            self.assertEqual(struck(book).numbers, ())
+            self.assertEqual(len(struck(Book(LOT, helds + [Free(LOT)] * 6)).numbers), 6)
+        self.assertLess(time.process_time() - start, 3)
 
 
 if __name__ == "__main__":
