@@ -79,8 +79,12 @@ def repeated(form, many):
 
 def times_form(form, many):
     """The Form so many times, from the polynomials of its numbers."""
-    numbers = {place: value_at(told, many) for place, told in number_polynomials(form).items()}
-    return form_with(form.lot, numbers)
+    return times_of(form.lot, number_polynomials(form), many)
+
+
+def times_of(lot, polynomials, many):
+    """The Form so many times that has these polynomials of its numbers, a dict by places."""
+    return form_with(lot, {place: value_at(numbers, many) for place, numbers in polynomials.items()})
 
 
 def number_polynomials(form):

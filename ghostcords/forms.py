@@ -60,8 +60,7 @@ class Form:
     def number(self, cord, row):
         """The number at a place."""
         need_cord(cord, self.lot)
-        if not is_leading(row) or not is_row_of(row, lesser_of(self.lot, cord)):
-            raise BadRow("row")
+        need_place_row(row, self.lot, cord)
         told = {place: number for place, number in self.numbers}
         return told.get((cord, tuple(row)), 0)
 
@@ -103,6 +102,12 @@ def form_of(tangle):
     need_tangle(tangle, "tangle")
     _, seen = seen_behind(tangle, len(tangle))
     return form_with(tangle.lot, {(cord, row): seen[cord][row] for cord, row in all_places(tangle.lot)})
+
+
+def need_place_row(row, lot, cord):
+    """Raises BadRow for what makes no place of a lot with this cord."""
+    if not is_leading(row) or not is_row_of(row, lesser_of(lot, cord)):
+        raise BadRow("row")
 
 
 def need_form(value, part):

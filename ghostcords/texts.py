@@ -30,6 +30,20 @@ def integer_of(word):
     return int(word)
 
 
+def read_integer(words, at):
+    """The integer that a word tells."""
+    number = integer_of(words[at]) if at < len(words) else None
+    if number is None:
+        raise BadText(0, at)
+    return number
+
+
+def need_end(words, at):
+    """Raises BadText if there is a word too many."""
+    if len(words) > at:
+        raise BadText(0, at)
+
+
 def signed_of(word, most):
     """The pair of a number from 0 to most, at most 4, and a sign that a word tells, or None."""
     number = cord_of(word[1:])

@@ -15,13 +15,19 @@ from ghostcords.forms import Form, form_of, places_of
 from ghostcords.ghosts import put_in, swaps
 from ghostcords.knit import crossings_of
 from ghostcords.names import names_behind, readings
+from ghostcords.patterns import Pattern
+from ghostcords.pictures import pictures
 from ghostcords.readings import Reading
 from ghostcords.real import alike, all_readings, real
+from ghostcords.rings import Rings, last_by, put_round, rings_of, same_rings
 from ghostcords.sayings import Falls, Free, Held, Least, Spare
 from ghostcords.slides import slides
 from ghostcords.tables import fits
+from ghostcords.weaves import Weave, number_of
+from ghostcords.when import alike_for, free_for
+from ghostcords.whole import told_of, whole
 from ghostcords.windings import exponents, from_exponents, leading_rows, letters_of
-from helpers import all_rows, random_tangle, random_word, seeded
+from helpers import all_rows, random_form, random_tangle, random_word, seeded
 
 LOT = (0, 1, 2, 3, 4)
 MOST_SECONDS = 10
@@ -105,6 +111,44 @@ class Bounds(unittest.TestCase):
             self.assertEqual(struck(book).numbers, ())
             self.assertEqual(len(struck(Book(LOT, helds + [Free(LOT)] * 6)).numbers), 6)
         self.assertLess(time.process_time() - start, 3)
+
+    def test_weaves_and_patterns(self):
+        chance = seeded(4)
+        for great in (2, 10 ** 30):
+            one, other = (Weave([(random_form(chance, LOT, great), chance.randint(-great, great), chance.randint(-great, great))
+                                 for _ in range(6)]) for _ in range(2))
+            start = time.process_time()
+            for cord, row in places_of(LOT):
+                self.assertEqual(number_of(one, cord, row).at(0), one.at(0).number(cord, row))
+            for _ in range(4):
+                self.assertFalse(alike_for(Weave(one.blocks), Weave(other.blocks)))
+                self.assertTrue(alike_for(Weave(one.blocks), one))
+                self.assertFalse(free_for(Weave(one.blocks), LOT))
+            one, other = (Pattern([(random_word(chance, 12), chance.randint(-great, great), chance.randint(-great, great))
+                                   for _ in range(12)]) for _ in range(2))
+            for _ in range(2):
+                self.assertFalse(alike_for(one, other))
+            self.assertLess(time.process_time() - start, 4)
+
+    def test_pictures_of_long_tangles(self):
+        tangle = random_tangle(seeded(5), LOT, 54)
+        start = time.process_time()
+        for many in (1, 2, 3, 4):
+            shown = pictures(tangle, many)
+            self.assertTrue(whole(LOT, shown, many))
+            self.assertEqual(len(told_of(LOT, shown, many)), 2)
+        self.assertLess(time.process_time() - start, 2)
+
+    def test_rings_of_great_numbers(self):
+        lot = (0, 1, 2)
+        start = time.process_time()
+        for great in (10 ** 25, 10 ** 60 + 1, -10 ** 500):
+            form = Form(lot, [(place, great * (at + 2)) for at, place in enumerate(places_of(lot))])
+            for other in (form, undoing(form), repeated(form, great)):
+                self.assertTrue(same_rings(form, put_round(form, other)))
+            self.assertEqual(rings_of(form), Rings(2 * great, 3 * great, 4 * great, 0))
+            self.assertEqual((last_by(form, 0) - last_by(form, 2)) % great, 0)
+        self.assertLess(time.process_time() - start, 2)
 
 
 if __name__ == "__main__":

@@ -54,7 +54,7 @@ class Examples(unittest.TestCase):
                 with self.subTest(module=module, code=code):
                     self.run_one(code, expected, names)
                     count += 1
-        self.assertEqual(count, 109)
+        self.assertEqual(count, 134)
 
 
 if __name__ == "__main__":

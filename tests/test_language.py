@@ -10,7 +10,8 @@ ROOT = os.path.dirname(os.path.dirname(os.path.abspath(__file__)))
 PACKAGE = os.path.join(ROOT, "ghostcords")
 
 BUILTINS = set("""len range enumerate zip min max sum abs sorted reversed int str bool list tuple dict set isinstance
-repr any all divmod type Exception ValueError staticmethod property super""".split())
+repr any all divmod type Exception ValueError staticmethod classmethod property super""".split())
+MATH = ("gcd",)
 BUILTIN_METHODS = set("""append clear copy count endswith extend find get index insert isalnum isalpha isdigit islower
 isspace isupper items join keys ljust lower lstrip partition pop remove replace reverse rfind rjust rpartition rsplit
 rstrip setdefault split splitlines startswith strip update upper values zfill bit_length add discard""".split())
@@ -21,8 +22,11 @@ NODES = set("""Module Expr Constant ImportFrom alias FunctionDef arguments arg C
 For Break Continue Pass Raise Call Name Attribute Subscript Slice Load Store BinOp UnaryOp BoolOp Compare IfExp List
 Tuple Dict Set ListComp DictComp SetComp comprehension JoinedStr FormattedValue Starred keyword Add Sub Mult FloorDiv
 Mod And Or Not USub Invert Yield LShift Eq NotEq Lt LtE Gt GtE Is IsNot In NotIn""".split())
-METHODS = set("""__init__ __eq__ __str__ __len__ __bool__ __mul__ __invert__ __add__ __sub__ __neg__""".split())
-BOTH = ("root",)
+METHODS = set("""__init__ __eq__ __str__ __len__ __bool__ __mul__ __invert__ __add__ __sub__ __neg__ __call__
+__contains__""".split())
+BOTH = ("root", "number")
+DECORATORS = ("staticmethod", "classmethod", "property")
+QUIET = METHODS - {"__init__", "__call__"}
 LISTED = {
     "papers": {"Paper": ["__init__", "__eq__"], "Denial": ["__init__", "__eq__"]},
     "words": {"Word": ["__init__", "__len__", "__mul__", "__invert__", "count", "without", "as_one", "renamed", "__eq__",
@@ -46,6 +50,13 @@ LISTED = {
                 "Either": ["__init__"], "Struck": ["__init__"]},
     "polynomials": {"Binomial": ["__init__", "at", "__add__", "__sub__", "__mul__", "__neg__", "put", "__eq__"]},
     "patterns": {"Pattern": ["__init__", "__len__", "__mul__", "__invert__", "put", "__eq__", "word_at", "at"]},
+    "weaves": {"Weave": ["__init__", "__len__", "__mul__", "__invert__", "put", "__eq__", "at"]},
+    "when": {"AllTimes": ["__init__"], "JustTimes": ["__init__"]},
+    "whole": {"Whole": ["__init__"], "Torn": ["__init__"]},
+    "rings": {"Closed": ["__eq__", "is_apart", "pairs", "mirrored", "backwards", "exchanged"],
+              "Pair": ["__init__", "apart", "__str__", "read"],
+              "Rings": ["__init__", "apart", "without", "__str__", "read"],
+              "OneRing": ["__init__"], "TwoRings": ["__init__"]},
 }
 FUNCTIONS = {
     "checks": "is_integer is_within is_name is_cord is_row is_lot is_leading row_key first_twice",
@@ -72,6 +83,13 @@ FUNCTIONS = {
     "polynomials": "through",
     "roots": "roots_of common_roots",
     "patterns": "counted",
+    "weaves": "number_of",
+    "when": "alike_for free_for",
+    "check_times": "shows_times shows_free",
+    "pictures": "pictures missing_lots seen_places unseen_places",
+    "whole": "whole filled told_of",
+    "check_pictures": "shows_whole",
+    "rings": "rings_of opened same_turns put_round last_by same_rings",
 }
 
 
@@ -113,6 +131,29 @@ def local_names(function):
         names.add(arguments.vararg.arg)
     stored = {node.id for node in ast.walk(function) if isinstance(node, ast.Name) and isinstance(node.ctx, ast.Store)}
     return names | stored
+
+
+def called_by(some):
+    """The names that these functions call, as functions or as methods."""
+    calls = [node.func for function in some for node in ast.walk(function) if isinstance(node, ast.Call)]
+    return {call.id if isinstance(call, ast.Name) else call.attr for call in calls}
+
+
+def quiet_functions():
+    """Operators, properties, and all that they may call, by names alone."""
+    own = [function for tree in TREES.values() for function in functions(tree)]
+    decorated = {function: {node.id for node in function.decorator_list} for function in own}
+    found = [function for function in own if function.name in QUIET or "property" in decorated[function]]
+    makers = {node.name: function for tree in TREES.values() for node in tree.body if isinstance(node, ast.ClassDef)
+              for function in functions(node) if function.name == "__init__"}
+    waiting = list(found)
+    while waiting:
+        names = called_by([waiting.pop()])
+        more = [function for function in own if function.name in names and function not in found]
+        more += [function for name, function in makers.items() if name in names and function not in found]
+        found += more
+        waiting += more
+    return found
 
 
 def docstrings(tree):
@@ -163,7 +204,9 @@ class Language(unittest.TestCase):
         for file_name, tree in self.each():
             rest = [node for node in tree.body[1:] if not isinstance(node, ast.ImportFrom)]
             for node in tree.body:
-                if isinstance(node, ast.ImportFrom):
+                if isinstance(node, ast.ImportFrom) and node.module == "math":
+                    self.assertTrue(all(alias.name in MATH and alias.asname is None for alias in node.names))
+                elif isinstance(node, ast.ImportFrom):
                     self.assertTrue(node.module.startswith("ghostcords.") and node.level == 0)
                     other = node.module.split(".")[1] + ".py"
                     self.assertIn(other, places)
@@ -179,7 +222,7 @@ class Language(unittest.TestCase):
             for name in imported_names(tree):
                 self.assertIn(name, used)
             imports[file_name] = {node.module.split(".")[1] + ".py" for node in tree.body
-                                  if isinstance(node, ast.ImportFrom)}
+                                  if isinstance(node, ast.ImportFrom) and node.module != "math"}
         done = set()
         while len(done) < len(imports):
             ready = [file_name for file_name in imports if file_name not in done and imports[file_name] <= done]
@@ -224,13 +267,12 @@ class Language(unittest.TestCase):
                         if function.name.startswith("__"):
                             self.assertIn(function.name, METHODS)
                         for decorator in function.decorator_list:
-                            self.assertIn(decorator.id, ("staticmethod", "property"))
+                            self.assertIn(decorator.id, DECORATORS)
 
     def test_attributes_are_not_methods(self):
         stored = {node.attr for tree in TREES.values() for node in ast.walk(tree)
                   if isinstance(node, ast.Attribute) and isinstance(node.ctx, ast.Store)}
-        called = {node.func.attr for tree in TREES.values() for node in ast.walk(tree)
-                  if isinstance(node, ast.Call) and isinstance(node.func, ast.Attribute)}
+        called = called_by(quiet_functions())
         for _, tree in self.each():
             for node in tree.body:
                 if isinstance(node, ast.ClassDef):
@@ -254,8 +296,8 @@ class Language(unittest.TestCase):
             for node in ast.walk(tree):
                 if isinstance(node, ast.Attribute) and isinstance(node.value, ast.Name) and node.value.id in classes:
                     own = [function for function in functions(classes[node.value.id]) if function.name == node.attr]
-                    self.assertEqual([name.id for function in own for name in function.decorator_list],
-                                     ["staticmethod"], node.attr)
+                    decorators = [name.id for function in own for name in function.decorator_list]
+                    self.assertIn(decorators, (["staticmethod"], ["classmethod"]), node.attr)
 
     def test_generators(self):
         own = [function for tree in TREES.values() for function in functions(tree)]

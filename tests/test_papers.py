@@ -6,15 +6,20 @@ from ghostcords.beside import Crosswise, Past
 from ghostcords.cuts import Cheapest, Cut
 from ghostcords.papers import Denial, Paper, fixed
 from ghostcords.real import Alike, Parted, Real, Unreal
+from ghostcords.rings import OneRing, TwoRings
 from ghostcords.tables import Breaks, Fits
+from ghostcords.when import AllTimes, JustTimes
+from ghostcords.whole import Torn, Whole
 from helpers import GREAT, ODD, nested
 
 CLASSES = {Fits: ("leads",), Alike: ("form",), Real: ("form",), Breaks: ("one", "other", "product", "total"),
            Parted: ("cord", "row", "one", "other"), Unreal: ("row", "one", "other"), Root: ("root",),
            NoRoot: ("rest", "cord", "row"), Past: (), Crosswise: ("cord", "row", "one", "other"), Cut: ("cords", "held"),
            Cheapest: ("cords", "price", "held"), Kept: ("family",), NotKept: ("held", "free"), Surely: ("numbers",),
-           Never: ("numbers",), Either: ("one", "other"), Struck: ("numbers", "clashes")}
-DENIALS = (Breaks, Parted, Unreal, NoRoot, Crosswise, NotKept, Never)
+           Never: ("numbers",), Either: ("one", "other"), Struck: ("numbers", "clashes"), AllTimes: (),
+           JustTimes: ("times", "differences"), Whole: ("form", "unseen"), OneRing: ("times",),
+           Torn: ("one", "other", "cord", "row", "number", "its"), TwoRings: ("which", "one", "other")}
+DENIALS = (Breaks, Parted, Unreal, NoRoot, Crosswise, NotKept, Never, JustTimes, Torn, TwoRings)
 
 
 class Papers(unittest.TestCase):
@@ -58,7 +63,7 @@ class Papers(unittest.TestCase):
     def test_classes(self):
         for kind, names in CLASSES.items():
             for value in ODD + GREAT + ([0, [1, (2, [3])]],):
-                values = [value, [value], 0, None][:len(names)]
+                values = [value, [value], 0, None, "a", [0, value]][:len(names)]
                 for paper in (kind(*values), kind(**dict(zip(names, values)))):
                     self.assertEqual(paper.word, kind.__name__.lower())
                     self.assertEqual(paper.parts, fixed(values))
