@@ -9,12 +9,15 @@ from ghostcords.beside import go_past
 from ghostcords.books import Book
 from ghostcords.check_answers import shows_word
 from ghostcords.check_below import shows_past, shows_root
+from ghostcords.check_rings import shows_passes
 from ghostcords.cuts import cheapest_cut, is_cut
+from ghostcords.desk import Desk
 from ghostcords.families import families, family_of, form_for
 from ghostcords.forms import Form, form_of, places_of
 from ghostcords.ghosts import put_in, swaps
 from ghostcords.knit import crossings_of
 from ghostcords.names import names_behind, readings
+from ghostcords.passes import fewest_passes
 from ghostcords.patterns import Pattern
 from ghostcords.pictures import pictures
 from ghostcords.readings import Reading
@@ -22,6 +25,7 @@ from ghostcords.real import alike, all_readings, real
 from ghostcords.rings import Rings, last_by, put_round, rings_of, same_rings
 from ghostcords.sayings import Falls, Free, Held, Least, Spare
 from ghostcords.slides import slides
+from ghostcords.stories import merged, replay
 from ghostcords.tables import fits
 from ghostcords.weaves import Weave, number_of
 from ghostcords.when import alike_for, free_for
@@ -118,9 +122,10 @@ class Bounds(unittest.TestCase):
             one, other = (Weave([(random_form(chance, LOT, great), chance.randint(-great, great), chance.randint(-great, great))
                                  for _ in range(6)]) for _ in range(2))
             start = time.process_time()
+            form = one.at(-great)
             for cord, row in places_of(LOT):
-                self.assertEqual(number_of(one, cord, row).at(0), one.at(0).number(cord, row))
-            for _ in range(4):
+                self.assertEqual(number_of(one, cord, row).at(-great), form.number(cord, row))
+            for _ in range(3):
                 self.assertFalse(alike_for(Weave(one.blocks), Weave(other.blocks)))
                 self.assertTrue(alike_for(Weave(one.blocks), one))
                 self.assertFalse(free_for(Weave(one.blocks), LOT))
@@ -148,6 +153,35 @@ class Bounds(unittest.TestCase):
                 self.assertTrue(same_rings(form, put_round(form, other)))
             self.assertEqual(rings_of(form), Rings(2 * great, 3 * great, 4 * great, 0))
             self.assertEqual((last_by(form, 0) - last_by(form, 2)) % great, 0)
+            paper = fewest_passes(rings_of(form), Rings.apart(), [(abs(great), 1), (7, abs(great)), (3, 3)])
+            self.assertTrue(shows_passes(rings_of(form), Rings.apart(), paper, [(abs(great), 1), (7, abs(great)), (3, 3)]))
+        self.assertLess(time.process_time() - start, 2)
+
+    def test_a_desk_of_long_tangles(self):
+        desk, chance = Desk(), seeded(6)
+        start = time.process_time()
+        for name in ("a", "b"):
+            desk(f"put {name} {random_tangle(chance, LOT, 54)}")
+        desk.told("over 0 1 2 3 4", *["tell held 0 1", "tell held 2 3 4", "tell free 0 2"] * 4)
+        for line in ("reading a 4", "form a", "slides a", "alike a b", "past a b", "held a", "fewest a", "root a -7", "when a b",
+                     "times a " + "9" * 60, "book", "word falls 2", "word spare 1", "clash", "fails a"):
+            self.assertTrue(desk(line))
+        self.assertLess(time.process_time() - start, 2)
+
+    def test_long_stories(self):
+        desk = Desk()
+        start = time.process_time()
+        desk("put a 0 1 2 : +0 +0")
+        for _ in range(100):
+            desk.told("back b a", "below c a b", "slide c undo 1", "drop b", "drop c")
+        self.assertEqual(replay(desk.story), desk)
+        twin = desk.twin()
+        twin("put x 0 :")
+        self.assertEqual(merged(desk, twin)[1], ())
+        for _ in range(501):
+            desk.undo()
+        for _ in range(501):
+            desk.redo()
         self.assertLess(time.process_time() - start, 2)
 
 

@@ -25,7 +25,10 @@ def sections():
 
 
 def error_fields(error):
-    return {key: value for key, value in vars(error).items() if not key.startswith("_")}
+    """The fields of an error, an error among them as its class and its own fields."""
+    fields = {key: value for key, value in vars(error).items() if not key.startswith("_")}
+    return {key: (type(value), error_fields(value)) if isinstance(value, CordError) else value
+            for key, value in fields.items()}
 
 
 class Examples(unittest.TestCase):
@@ -54,7 +57,7 @@ class Examples(unittest.TestCase):
                 with self.subTest(module=module, code=code):
                     self.run_one(code, expected, names)
                     count += 1
-        self.assertEqual(count, 134)
+        self.assertEqual(count, 156)
 
 
 if __name__ == "__main__":

@@ -21,7 +21,7 @@ methodcaller os quit setattr super vars sys typing enum Enum Generic Protocol AB
 NODES = set("""Module Expr Constant ImportFrom alias FunctionDef arguments arg ClassDef Assign AugAssign Return If While
 For Break Continue Pass Raise Call Name Attribute Subscript Slice Load Store BinOp UnaryOp BoolOp Compare IfExp List
 Tuple Dict Set ListComp DictComp SetComp comprehension JoinedStr FormattedValue Starred keyword Add Sub Mult FloorDiv
-Mod And Or Not USub Invert Yield LShift Eq NotEq Lt LtE Gt GtE Is IsNot In NotIn""".split())
+Mod Try ExceptHandler And Or Not USub Invert Yield LShift Eq NotEq Lt LtE Gt GtE Is IsNot In NotIn""".split())
 METHODS = set("""__init__ __eq__ __str__ __len__ __bool__ __mul__ __invert__ __add__ __sub__ __neg__ __call__
 __contains__""".split())
 BOTH = ("root", "number")
@@ -57,6 +57,9 @@ LISTED = {
               "Pair": ["__init__", "apart", "__str__", "read"],
               "Rings": ["__init__", "apart", "without", "__str__", "read"],
               "OneRing": ["__init__"], "TwoRings": ["__init__"]},
+    "passes": {"Passes": ["__init__"], "Barred": ["__init__"]},
+    "lofts": {"Loft": ["__init__", "names", "book", "thing", "__eq__"]},
+    "desk": {"Desk": ["__init__", "__call__", "__len__", "__contains__", "__eq__", "told", "tried", "undo", "redo", "twin"]},
 }
 FUNCTIONS = {
     "checks": "is_integer is_within is_name is_cord is_row is_lot is_leading row_key first_twice",
@@ -90,6 +93,12 @@ FUNCTIONS = {
     "whole": "whole filled told_of",
     "check_pictures": "shows_whole",
     "rings": "rings_of opened same_turns put_round last_by same_rings",
+    "passes": "let_through passed fewest_passes",
+    "check_rings": "shows_rings shows_passes",
+    "desk_lines": "read_line",
+    "desk_deeds": "changed",
+    "desk_asks": "answer_of",
+    "stories": "replay parting merged",
 }
 
 
@@ -130,7 +139,8 @@ def local_names(function):
     if arguments.vararg:
         names.add(arguments.vararg.arg)
     stored = {node.id for node in ast.walk(function) if isinstance(node, ast.Name) and isinstance(node.ctx, ast.Store)}
-    return names | stored
+    caught = {node.name for node in ast.walk(function) if isinstance(node, ast.ExceptHandler) and node.name}
+    return names | stored | caught
 
 
 def called_by(some):
@@ -194,10 +204,28 @@ class Language(unittest.TestCase):
             for node in tree.body[1:]:
                 if isinstance(node, ast.Assign):
                     self.assertEqual(len(node.targets), 1)
-                    ast.literal_eval(node.value)
+                    self.check_table(node, tree)
                 else:
                     self.assertIsInstance(node, (ast.ImportFrom, ast.FunctionDef, ast.ClassDef))
             self.assertIsInstance(tree.body[0].value.value, str)
+
+    def check_table(self, node, tree):
+        """What is assigned at module level is plain, or a dict of functions that are defined above it."""
+        if not (isinstance(node.value, ast.Dict) and all(isinstance(own, ast.Name) for own in node.value.values)):
+            ast.literal_eval(node.value)
+            return
+        above = {own.name for own in tree.body if isinstance(own, ast.FunctionDef) and own.lineno < node.lineno}
+        self.assertEqual({own.id for own in node.value.values} - above, set())
+        for key in node.value.keys:
+            self.assertIsInstance(key.value, str)
+
+    def test_handlers(self):
+        errors = module_names(TREES["errors.py"])
+        for _, tree in self.each():
+            for node in ast.walk(tree):
+                if isinstance(node, ast.Try):
+                    self.assertEqual((len(node.handlers), node.orelse, node.finalbody), (1, [], []))
+                    self.assertIn(node.handlers[0].type.id, errors)
 
     def test_imports(self):
         places = {file_name: index for index, file_name in enumerate(TREES)}

@@ -1,11 +1,15 @@
+import importlib
+import os
 import unittest
 
+import ghostcords
 from ghostcords.answers import Either, Kept, Never, NotKept, Struck, Surely
 from ghostcords.below import NoRoot, Root
 from ghostcords.beside import Crosswise, Past
 from ghostcords.cuts import Cheapest, Cut
 from ghostcords.papers import Denial, Paper, fixed
 from ghostcords.real import Alike, Parted, Real, Unreal
+from ghostcords.passes import Barred, Passes
 from ghostcords.rings import OneRing, TwoRings
 from ghostcords.tables import Breaks, Fits
 from ghostcords.when import AllTimes, JustTimes
@@ -18,8 +22,10 @@ CLASSES = {Fits: ("leads",), Alike: ("form",), Real: ("form",), Breaks: ("one", 
            Cheapest: ("cords", "price", "held"), Kept: ("family",), NotKept: ("held", "free"), Surely: ("numbers",),
            Never: ("numbers",), Either: ("one", "other"), Struck: ("numbers", "clashes"), AllTimes: (),
            JustTimes: ("times", "differences"), Whole: ("form", "unseen"), OneRing: ("times",),
-           Torn: ("one", "other", "cord", "row", "number", "its"), TwoRings: ("which", "one", "other")}
-DENIALS = (Breaks, Parted, Unreal, NoRoot, Crosswise, NotKept, Never, JustTimes, Torn, TwoRings)
+           Torn: ("one", "other", "cord", "row", "number", "its"), TwoRings: ("which", "one", "other"),
+           Passes: ("price", "runs"), Barred: ("passes",)}
+DENIALS = (Breaks, Parted, Unreal, NoRoot, Crosswise, NotKept, Never, JustTimes, Torn, TwoRings,
+           Barred)
 
 
 class Papers(unittest.TestCase):
@@ -71,6 +77,27 @@ class Papers(unittest.TestCase):
             self.assertIs(bool(paper), kind not in DENIALS)
             self.assertIs(issubclass(kind, Denial), kind in DENIALS)
             self.assertTrue(issubclass(kind, Paper))
+
+    def test_equal_just_if_class_word_and_parts_are(self):
+        for kind, names in CLASSES.items():
+            values = [[0, (1,)]] * len(names)
+            self.assertTrue(kind(*values) == kind(*values) and not kind(*values) != kind(*values))
+            for other, its_names in CLASSES.items():
+                self.assertIs(kind(*values) == other(*[[0, (1,)]] * len(its_names)), other is kind)
+            self.assertIs(kind(*values) == Paper(kind.__name__.lower(), *values), False)
+            for at in range(len(names)):
+                self.assertIs(kind(*values) == kind(*values[:at], [0, (2,)], *values[at + 1:]), False)
+                self.assertIs(kind(*values) != kind(*values[:at], [0, (2,)], *values[at + 1:]), True)
+
+    def test_all_classes_of_papers_are_here(self):
+        found = set()
+        waiting = [Paper]
+        for file_name in os.listdir(os.path.dirname(ghostcords.__file__)):
+            importlib.import_module("ghostcords." + file_name.removesuffix(".py")) if file_name.endswith(".py") else None
+        while waiting:
+            found.add(waiting.pop())
+            waiting += [kind for known in list(found) for kind in known.__subclasses__() if kind not in found]
+        self.assertEqual({kind for kind in found if kind.__module__.startswith("ghostcords")}, {Paper, Denial, *CLASSES})
 
 
 if __name__ == "__main__":
