@@ -1,3 +1,4 @@
+import re
 import unittest
 
 from ghostcords.desk_lines import ASKS, DEEDS, read_line
@@ -57,6 +58,20 @@ PLAIN = (
 )
 WORDS = {"name": "b2", "cord": "1", "number": "7", "integer": "7", "slide": "far"}
 
+FITS = {"name": "[a-z][a-z0-9]{0,11}", "cord": "[0-4]", "number": "0|[1-9][0-9]{0,59}", "integer": "0|-?[1-9][0-9]{0,59}",
+        "slide": "far|undo|three"}
+
+
+def first_wrong(words, kinds, more):
+    """The index of the first word behind the first one that cannot stand, or is missing; None if none is."""
+    for at, kind in enumerate(kinds, 1):
+        if at >= len(words) or not re.fullmatch(FITS[kind], words[at]):
+            return at
+    for at in range(len(kinds) + 1, len(words)):
+        if not more or not re.fullmatch(FITS[kinds[-1]], words[at]):
+            return at
+    return None
+
 
 class Lines(unittest.TestCase):
     def test_tables(self):
@@ -95,6 +110,21 @@ class Lines(unittest.TestCase):
             refuses(self, BadText(0, 0), read_line, " " + line)
             refuses(self, BadText(0, 0), read_line, line.upper())
             refuses(self, BadText(0, 0), read_line, "x" + line)
+
+    def test_words_left_out_put_in_and_exchanged(self):
+        for line, kinds, more in PLAIN:
+            words = line.split(" ")
+            fewest = kinds[:1] if more and len(set(kinds)) == 1 else kinds[:2] if more else kinds
+            bent = [words[:at] + words[at + 1:] for at in range(1, len(words))]
+            bent += [words[:at] + [extra] + words[at:] for at in range(1, len(words) + 1)
+                     for extra in ("", "a", "0", "4", "5", "-1", "far", "b2", "..", ":", "held")]
+            bent += [words[:at] + [words[at + 1], words[at]] + words[at + 2:] for at in range(1, len(words) - 1)]
+            for told in bent:
+                wrong = first_wrong(told, fewest, more)
+                if wrong is None:
+                    self.assertEqual([str(value) for value in read_line(" ".join(told))], told)
+                else:
+                    refuses(self, BadText(0, wrong), read_line, " ".join(told))
 
     def test_no_lines(self):
         for value in ODD + GREAT + ("", " ", "a", "puts", "put_", "PUT", "\nnames", b"names", ["names"], ("put", "a"), "names\n",
