@@ -6,7 +6,7 @@ from ghostcords.below import below, undoing
 from ghostcords.checks import is_lot, is_within
 from ghostcords.errors import BadForm, BadLot, BadNumber, BadRing, BadText, TooMany, Twice
 from ghostcords.forms import Form, all_places, need_form
-from ghostcords.needs import need_cord, need_one_lot
+from ghostcords.needs import need_cord, need_number, need_one_lot
 from ghostcords.papers import Denial, Paper, fixed
 from ghostcords.readings import need_reading
 from ghostcords.real import all_readings
@@ -62,6 +62,7 @@ class Pair(Closed):
     SIZE = 2
 
     def __init__(self, p):
+        need_number(p, "p")
         super().__init__((p,), 0)
 
     def __str__(self):
@@ -87,6 +88,10 @@ class Rings(Closed):
     SIZE = 3
 
     def __init__(self, p, q, r, m=0):
+        need_number(p, "p")
+        need_number(q, "q")
+        need_number(r, "r")
+        need_number(m, "m")
         super().__init__((p, q, r), m)
 
     def __str__(self):

@@ -82,6 +82,42 @@ class Values(unittest.TestCase):
         self.assertFalse(hasattr(Pair(2), "without"))
 
 
+class Integers(unittest.TestCase):
+    def test_pairs_of_what_is_no_integer(self):
+        for value in NO_INTEGERS + ((1,), "1", Pair(1)):
+            refuses(self, BadNumber("p"), Pair, value)
+            refuses(self, BadNumber("p"), Pair, p=value)
+
+    def test_rings_of_what_is_no_integer(self):
+        for value in NO_INTEGERS + ((2,), "1", Pair(1)):
+            for turns in ((0, 0, 0), (2, 4, 6), GREAT_TURNS):
+                numbers = [*turns, 4]
+                for at, part in enumerate("pqrm"):
+                    wrong = numbers[:at] + [value] + numbers[at + 1:]
+                    refuses(self, BadNumber(part), Rings, *wrong)
+                    refuses(self, BadNumber(part), Rings, **dict(zip("mrqp", wrong[::-1])))
+                    if at < 3:
+                        refuses(self, BadNumber(part), Rings, *wrong[:3])
+
+    def test_the_first_that_is_none(self):
+        for value in NO_INTEGERS:
+            for at, part in enumerate("pqrm"):
+                wrong = [1, 2, 3, 4][:at] + [value] * (4 - at)
+                refuses(self, BadNumber(part), Rings, *wrong)
+                refuses(self, BadNumber(part), Rings, **dict(zip("mrqp", wrong[::-1])))
+        refuses(self, BadNumber("p"), Rings, "1", "1", 1)
+        refuses(self, BadNumber("r"), Rings, 1, 2, True)
+
+    def test_integers_of_any_size_and_sign(self):
+        for value in GREAT + (0, -1, 1):
+            self.assertEqual((Pair(value).turns, Pair(value).last), ((value,), 0))
+            for at in range(3):
+                turns = [0] * at + [value] + [0] * (2 - at)
+                self.assertEqual((Rings(*turns).turns, Rings(*turns).divisor), (tuple(turns), abs(value)))
+            self.assertEqual(Rings(0, 0, 0, value).last, value)
+            self.assertEqual(Rings(7, 0, 0, value).last, value % 7)
+
+
 class Texts(unittest.TestCase):
     def test_there_and_back(self):
         chance = seeded(2)
